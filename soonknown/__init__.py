@@ -1,0 +1,1 @@
+"""What is already known of a document that is still being written."""

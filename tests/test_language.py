@@ -1,0 +1,127 @@
+"""Those rules of the language that can be checked line by line, over all files of the package."""
+
+import ast
+import builtins
+import pathlib
+import re
+import unittest
+
+PACKAGE = pathlib.Path(__file__).resolve().parent.parent / "soonknown"
+FILES = sorted(PACKAGE.rglob("*.py"))
+
+BUILTINS = set("""len range enumerate zip min max sum abs sorted reversed int str bool list tuple dict set
+    isinstance ord repr any all divmod iter next map ValueError TypeError KeyError IndexError LookupError Exception
+    StopIteration RuntimeError NotImplemented super property staticmethod classmethod getattr hasattr""".split())
+METHODS = set("""append clear copy count endswith extend find get index insert isalnum isalpha isdigit islower isspace
+    isupper items join keys ljust lower lstrip partition pop remove replace reverse rfind rjust rpartition rsplit rstrip
+    setdefault split splitlines startswith strip update upper values zfill bit_length add discard appendleft popleft
+    removeprefix removesuffix""".split())
+LIBRARY = {"heapq", "math", "itertools", "collections", "__future__"}
+BARRED_WORDS = re.compile(r"\b(type|typing|enum|Enum|Flag|Generic|Protocol|ABC|namedtuple|NamedTuple|TypedDict)\b"
+                          r"|dataclass|overload|contextmanager")
+BARRED_NAMES = set("""register mro elements open input law version_info with_traceback add_note compile copyright
+    credits dir eval exec exit gc globals help id locals os quit type vars sys""".split())
+BARRED_NODES = (ast.AsyncFunctionDef, ast.AsyncFor, ast.AsyncWith, ast.Await)
+DECORATORS = {"property", "staticmethod", "classmethod", "setter"}
+
+
+def own_methods():
+    return {node.name for path in FILES for node in ast.walk(ast.parse(path.read_text()))
+            if isinstance(node, ast.FunctionDef)}
+
+
+def bound_names(tree):
+    """The names that a file binds anywhere, apart from methods."""
+    bound = {node.name for node in tree.body if isinstance(node, (ast.FunctionDef, ast.ClassDef))}
+    for node in ast.walk(tree):
+        if isinstance(node, ast.Name) and isinstance(node.ctx, ast.Store):
+            bound.add(node.id)
+        elif isinstance(node, ast.arg):
+            bound.add(node.arg)
+        elif isinstance(node, ast.ImportFrom):
+            bound.update(alias.name for alias in node.names)
+    return bound
+
+
+class Language(unittest.TestCase):
+    def each_file(self):
+        sources = [(path, path.read_text(encoding="utf-8")) for path in FILES]
+        return [(path, source, ast.parse(source)) for path, source in sources]
+
+    def test_the_folder_holds_python_files_only(self):
+        found = [path for path in PACKAGE.rglob("*") if "__pycache__" not in path.parts and path.is_file()]
+        self.assertEqual(sorted(found), FILES)
+        self.assertIn(PACKAGE / "__init__.py", FILES)
+
+    def test_size_and_characters(self):
+        for _, source, tree in self.each_file():
+            self.assertIsNone(re.search("[^ -~\n]", source))
+            lines = source.split("\n")
+            self.assertLess(len(lines), 400)
+            self.assertLessEqual(max(len(line) for line in lines), 120)
+            for node in ast.walk(tree):
+                if isinstance(node, ast.FunctionDef):
+                    self.assertLessEqual(node.end_lineno - node.lineno, 39, node.name)
+                    for decorator in node.decorator_list:
+                        self.assertIn(getattr(decorator, "id", getattr(decorator, "attr", "")), DECORATORS)
+
+    def test_module_level(self):
+        for _, _, tree in self.each_file():
+            names = []
+            for at, node in enumerate(tree.body):
+                if isinstance(node, ast.Expr):
+                    self.assertTrue(at == 0 and isinstance(node.value, ast.Constant))
+                elif isinstance(node, ast.ImportFrom):
+                    self.assertEqual(node.level, 0)
+                    self.assertTrue(node.module.startswith("soonknown.") or node.module in LIBRARY, node.module)
+                    names += [alias.name for alias in node.names]
+                elif isinstance(node, ast.Assign):
+                    names.append(node.targets[0].id)
+                else:
+                    self.assertIsInstance(node, (ast.FunctionDef, ast.ClassDef))
+                    names.append(node.name)
+            self.assertEqual(len(names), len(set(names)))
+
+    def test_names_and_calls(self):
+        methods = METHODS | own_methods()
+        for path, _, tree in self.each_file():
+            bound = bound_names(tree)
+            barred = {name for name in dir(builtins) if not name.startswith("__")} | BARRED_NAMES
+            self.assertEqual(bound & barred, set(), path.name)
+            for node in ast.walk(tree):
+                self.assertNotIsInstance(node, BARRED_NODES)
+                if isinstance(node, ast.Name):
+                    self.assertIn(node.id, bound | BUILTINS)
+                if isinstance(node, ast.Call) and isinstance(node.func, ast.Attribute):
+                    self.assertIn(node.func.attr, methods)
+                if isinstance(node, ast.Constant):
+                    self.assertNotIsInstance(node.value, (float, complex))
+                if isinstance(node, ast.BinOp):
+                    self.assertNotIsInstance(node.op, (ast.Div, ast.MatMult))
+                if isinstance(node, ast.Constant) and isinstance(node.value, str):
+                    self.assertNotIn("%", node.value)
+
+    def test_barred_words(self):
+        for _, _, tree in self.each_file():
+            for node in ast.walk(tree):
+                word = getattr(node, "id", getattr(node, "attr", getattr(node, "arg", getattr(node, "name", ""))))
+                if isinstance(word, str):
+                    self.assertIsNone(BARRED_WORDS.search(word))
+
+    def test_no_two_files_import_from_each_other(self):
+        imports = {}
+        for path, _, tree in self.each_file():
+            name = "soonknown." + path.stem
+            imports[name] = {node.module for node in tree.body if isinstance(node, ast.ImportFrom)}
+        for name in imports:
+            reached, waiting = set(), list(imports[name])
+            while waiting:
+                module = waiting.pop()
+                if module in imports and module not in reached:
+                    reached.add(module)
+                    waiting += imports[module]
+            self.assertNotIn(name, reached)
+
+
+if __name__ == "__main__":
+    unittest.main()
