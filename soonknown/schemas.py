@@ -1,7 +1,8 @@
 """Schemas: what is one, which values have one, and which two are apart."""
 
+from soonknown.apartness import alternatives_of, are_all_apart
 from soonknown.forms import are_letters_of, form_of, integer_range, is_ascending, item_schema, kind_of
-from soonknown.forms import list_lengths, required_schema, schema_by_itself, schema_in_record
+from soonknown.forms import list_lengths, required_schema, schema_in_record
 from soonknown.values import GREATEST_DEPTH, GREATEST_INTEGER, LONGEST_STRING, MOST_PARTS
 from soonknown.values import is_letters, is_name, is_value_within, is_whole, kind_of_value, same
 
@@ -134,8 +135,9 @@ def is_either_within(alternatives, depth):
         if form_of(alternative) == "either" or not is_schema_within(alternative, depth):
             return False
     for at, alternative in enumerate(alternatives):
-        if not are_all_apart(alternatives[:at], alternative):
-            return False
+        for earlier in alternatives[:at]:
+            if not apart(earlier, alternative):
+                return False
     return True
 
 
@@ -214,100 +216,4 @@ def do_parts_fit(parts):
 
 def apart(first, second):
     """Return whether two schemas are apart."""
-    if first[0] == "either":
-        return are_all_apart(first[1], second)
-    if second[0] == "either":
-        return are_all_apart(second[1], first)
-    kind = kind_of(first)
-    if kind != kind_of(second):
-        return True
-    if kind == "flag":
-        return first[0] == "just" and second[0] == "just" and first[1] != second[1]
-    if kind == "integer":
-        return are_ranges_apart(integer_range(first), integer_range(second))
-    if kind == "string":
-        return are_strings_apart(first, second)
-    return are_lists_apart(first, second) if kind == "list" else are_records_apart(first, second)
-
-
-def are_all_apart(schemas, other):
-    """Return whether all of some schemas are apart from another one."""
-    for schema in schemas:
-        if not apart(schema, other):
-            return False
-    return True
-
-
-def are_ranges_apart(first, second):
-    """Return whether no integer is in both of two ranges."""
-    return first[1] < second[0] or second[1] < first[0]
-
-
-def are_strings_apart(first, second):
-    """Return whether no string has both of two schemas."""
-    if first[0] == "text":
-        return are_texts_apart(first, second) if second[0] == "text" else are_strings_apart(second, first)
-    words = first[1] if first[0] == "choice" else (first[1],)
-    for word in words:
-        if fits_string(second, word):
-            return False
-    return True
-
-
-def are_texts_apart(first, second):
-    """Return whether no string has both of two texts."""
-    if len(first[1]) > len(second[1]):
-        return are_texts_apart(second, first)
-    _, start, letters, least, greatest = first
-    _, longer, others, lowest, highest = second
-    if are_ranges_apart((least, greatest), (lowest, highest)) or not longer.startswith(start):
-        return True
-    if not are_letters_of(longer[len(start):], letters):
-        return True
-    return max(least, lowest) > len(longer) and [sign for sign in letters if sign in others] == []
-
-
-def are_lists_apart(first, second):
-    """Return whether two schemas of lists are apart."""
-    lengths = list_lengths(first)
-    others = list_lengths(second)
-    if are_ranges_apart(lengths, others):
-        return True
-    # Behind the leading schemas of both, all positions are like the first one there.
-    leading = max(len(first[1]), len(second[1]))
-    for at in range(min(lengths[0], others[0], leading + 1)):
-        if apart(item_schema(first, at), item_schema(second, at)):
-            return True
-    return False
-
-
-def are_records_apart(first, second):
-    """Return whether two schemas of records are apart."""
-    members = members_by_name(first)
-    others = members_by_name(second)
-    if requires_more(members, others) or requires_more(others, members):
-        return True
-    for name, (schema, required) in members.items():
-        if required and name in others and is_required_apart(others[name], schema):
-            return True
-    return False
-
-
-def members_by_name(schema):
-    """Return a dict from names to (schema, required) for a record schema or a just with a record."""
-    if schema[0] == "just":
-        return {name: (("just", value), True) for name, value in schema[1].items()}
-    return {name: (schema_by_itself(schema[1], part), required) for name, part, required in schema[1]}
-
-
-def requires_more(members, others):
-    """Return whether some members require a name that others do not have."""
-    for name, (_, required) in members.items():
-        if required and name not in others:
-            return True
-    return False
-
-
-def is_required_apart(member, schema):
-    """Return whether a member is required and its schema is apart from another one."""
-    return member[1] and apart(member[0], schema)
+    return are_all_apart(alternatives_of((first,)), alternatives_of((second,)), True)

@@ -114,6 +114,67 @@ def records_of(members):
     return found
 
 
+def plain_apart(first, second):
+    """Whether two schemas are apart, by the rules of [7] one after the other, pair by pair."""
+    if first[0] == "either":
+        return all(plain_apart(alternative, second) for alternative in first[1])
+    if second[0] == "either":
+        return plain_apart(second, first)
+    kinds = {kind_of_schema(first), kind_of_schema(second)}
+    if len(kinds) == 2:
+        return True
+    if kinds == {"list"}:
+        return plain_lists_apart(as_list(first), as_list(second))
+    if kinds == {"record"}:
+        return plain_records_apart(as_members(first), as_members(second))
+    if kinds == {"integer"}:
+        bounds = [schema[1:] if schema[0] == "integer" else schema[1:] * 2 for schema in (first, second)]
+        return max(bounds[0][0], bounds[1][0]) > min(bounds[0][1], bounds[1][1])
+    documents = {plain_document(value) for value in values_of(first)}
+    return not any(plain_document(value) in documents for value in values_of(second))
+
+
+def kind_of_schema(schema):
+    sort = type(schema[1]) if schema[0] == "just" else schema[0]
+    return {bool: "flag", int: "integer", str: "string", list: "list", dict: "record", "choice": "string",
+            "text": "string"}.get(sort, sort)
+
+
+def as_list(schema):
+    if schema[0] == "list":
+        return schema
+    return ("list", tuple(("just", item) for item in schema[1]), None, len(schema[1]), len(schema[1]))
+
+
+def plain_lists_apart(first, second):
+    if first[4] < second[3] or second[4] < first[3]:
+        return True
+    rows = [(list(schema[1]) + [schema[2]] * 9) for schema in (first, second)]
+    return any(plain_apart(rows[0][at], rows[1][at]) for at in range(min(first[3], second[3])))
+
+
+def as_members(schema):
+    if schema[0] == "just":
+        return {name: (("just", value), True) for name, value in schema[1].items()}
+    found = {}
+    for name, part, required in schema[1]:
+        if part[0] == "repeat":
+            part = found[part[1]][0]
+        elif part[0] == "sized":
+            number = found[part[2]][0]
+            part = ("list", (), part[1], number[1], number[-1])
+        found[name] = (part, required)
+    return found
+
+
+def plain_records_apart(first, second):
+    for ours, others in ((first, second), (second, first)):
+        if any(required and name not in others for name, (_, required) in ours.items()):
+            return True
+    return any(first[name][1] and second[name][1] and plain_apart(first[name][0], second[name][0])
+               for name in first if name in second)
+
+
 def random_value(random, depth=3):
     """A random value of at most this depth."""
     kind = random.choice("ifslr" if depth > 1 else "ifs")
@@ -158,6 +219,24 @@ def random_schema(random, depth=3):
     if form == "either":
         return ("either", (random_plain(random), ("list", (), random_schema(random, depth - 1), 0, 1)))
     return ("just", random_small_value(random))
+
+
+def random_either(random, depth, leaves):
+    """A random either, at all levels, down to leaves; its alternatives need not be apart."""
+    return ("either", tuple(random_alternative(random, depth, leaves) for _ in range(random.choice([2, 2, 3, 4]))))
+
+
+def random_alternative(random, depth, leaves):
+    if depth == 1 or random.random() < 0.1:
+        return random.choice(leaves)
+    make = random.choice([random_either, random_either, random_alternative])
+    parts = tuple(make(random, depth - 1, leaves) for _ in range(2))
+    least = random.choice([0, 1, 1, 2, 2])
+    names = random.choice(["ab", "ab", "ac"])
+    return random.choice([
+        ("list", (), parts[0], least, random.randint(least, 3)), ("list", parts[1:], parts[0], 2, random.randint(2, 3)),
+        ("record", tuple((name, part, random.random() < 0.8) for name, part in zip(names, parts))),
+    ])
 
 
 def random_small_value(random):

@@ -5,7 +5,8 @@ import itertools
 import random
 import unittest
 
-from samples import plain_document, random_plain, random_schema, values_of
+from samples import plain_apart, plain_document, random_alternative, random_either, random_plain, random_schema
+from samples import kind_of_schema, values_of
 from soonknown.schemas import apart, is_schema
 
 FLAG = ("flag",)
@@ -54,6 +55,25 @@ def sized(schema, item=FLAG, needed=True):
     """A record whose list b has as many items as its member a says."""
     return record(need("a", schema), ("b", ("sized", item, "a"), needed))
 
+
+def kind_of(schema):
+    return "either" if schema[0] == "either" else kind_of_schema(schema)
+
+
+def nested_eithers(schemas, levels, around):
+    """Eithers of five alternatives at each level, with one of the schemas at each innermost place."""
+    if levels == 0:
+        return either(*schemas)
+    size = len(schemas) // 5
+    parts = [schemas[at:at + size] for at in range(0, len(schemas), size)]
+    return either(*[around(nested_eithers(part, levels - 1, around)) for part in parts])
+
+
+LEAVES = [
+    ("integer", 0, 2), ("integer", 1, 1), ("integer", 3, 5), ("integer", 4, 9), just(6), just(1), just(True), FLAG,
+    choice("a", "b"), choice("b", "c"), just("c"), text("d", "ab", 1, 3), text("da", "a", 2, 3), text("", "e", 0, 2),
+    just([]), just([1, True]), just({"a": 1, "b": 4}), record(),
+]
 
 OF_KINDS = {
     "flag": [FLAG, just(True)], "integer": [NUMBERS, just(1)], "list": [lists(0, 2), just([]), just([1])],
@@ -233,6 +253,42 @@ class Apart(unittest.TestCase):
                     self.assertNotIn(plain_document(value), documents, (first, second))
         self.assertGreater(found, 50)
 
+    def test_rules_pair_by_pair(self):
+        chance = random.Random(11)
+        found = {True: 0, False: 0}
+        for _ in range(6000):
+            leaves = chance.sample(LEAVES, chance.randint(4, len(LEAVES)))
+            cut = chance.randint(1, len(leaves) - 1)
+            # With some leaves of the other side it is mostly a few pairs that are not apart.
+            others = leaves[cut:] * 3 + leaves[:chance.choice([0, 0, 0, 1])]
+            depth = chance.choice([2, 3, 3, 4])
+            make = chance.choice([random_either, random_either, random_alternative])
+            first, second = make(chance, depth, leaves[:cut]), make(chance, depth, others)
+            expected = plain_apart(first, second)
+            found[expected] += kind_of(first) == kind_of(second)
+            self.assertIs(apart(first, second), expected, (first, second))
+            self.assertIs(apart(second, first), expected, (first, second))
+        self.assertGreater(min(found.values()), 1000)
+        for first, second in itertools.product([pair[0] for pair in APART + NOT_APART], repeat=2):
+            self.assertIs(apart(first, second), plain_apart(first, second), (first, second))
+
+    def test_eithers_at_all_levels_do_not_take_long(self):
+        chance = random.Random(12)
+        words = ["".join(letters) for letters in itertools.product("abcde", repeat=6)]
+        leaves = [
+            [("integer", number, number) for number in range(5 ** 6)],
+            [text(word, "ab", 7, 9) for word in words],
+            [choice(word, word + "f") for word in words],
+        ]
+        for schemas in leaves:
+            chance.shuffle(schemas)
+            self.assertIs(is_schema(nested_eithers(schemas, 5, lambda part: lists(1, 1, part))), True)
+            schema = nested_eithers(schemas[1:] + schemas[:1], 5, lambda part: record(need("a", part), may("b", FLAG)))
+            self.assertIs(is_schema(schema), True)
+            self.assertIs(apart(schema, schema), False)
+            schemas[0] = schemas[-1]
+            self.assertIs(is_schema(nested_eithers(schemas, 5, lambda part: lists(1, 1, part))), False)
+
     def test_large_schemas_do_not_take_long(self):
         first, second = NUMBERS, HIGHER
         for _ in range(5):
@@ -245,6 +301,12 @@ class Apart(unittest.TestCase):
             second = either(*[lists(many, many, second) for many in range(1, 6)])
         self.check(first, second, True)
         self.check(first, first, False)
+        first, second = NUMBERS, FLAG
+        for _ in range(5):
+            first = either(*[lists(many, many, first, (first,) * many) for many in range(4, 9)])
+            second = either(*[lists(many, many, second, (second,) * many) for many in range(4, 9)])
+        self.assertIs(apart(first, second), True)
+        self.assertIs(apart(first, first), False)
 
     def test_arguments(self):
         first, second = sized(just(1)), just({"b": [True, 1], "a": 2})
