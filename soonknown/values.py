@@ -104,6 +104,24 @@ def same(first, second):
     return document(first) == document(second)
 
 
+def renewed(thing):
+    """Return a copy of a value, a schema or a knowledge that has no list or dict in common with it."""
+    if isinstance(thing, tuple):
+        return tuple([renewed(part) for part in thing])
+    if isinstance(thing, list):
+        return [renewed(part) for part in thing]
+    if isinstance(thing, dict):
+        return {name: renewed(part) for name, part in thing.items()}
+    return thing
+
+
+def written(thing):
+    """Return a text that is the same for two schemas or two knowledges exactly if they are the same."""
+    if isinstance(thing, tuple):
+        return "(" + ",".join([written(part) for part in thing]) + ")"
+    return document(thing)
+
+
 def read_document(text):
     """Return the value of a document; each reader below refuses the first character that cannot stand there."""
     if not isinstance(text, str):

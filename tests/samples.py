@@ -4,6 +4,8 @@ import itertools
 import json
 import re
 
+from soonknown.schemas import is_schema
+
 
 def plain_document(value):
     """The document of a value, as the json module of Python writes it."""
@@ -237,6 +239,101 @@ def random_alternative(random, depth, leaves):
         ("list", (), parts[0], least, random.randint(least, 3)), ("list", parts[1:], parts[0], 2, random.randint(2, 3)),
         ("record", tuple((name, part, random.random() < 0.8) for name, part in zip(names, parts))),
     ])
+
+
+def random_source(random):
+    """A random schema that may be repeated, and that may be a size if it has no negative values and no letters."""
+    low = random.choice([0, 0, 1, 8, 9, -2, 98])
+    return random.choice([
+        ("integer", 0, random.randint(0, 3)), ("integer", low, low + random.randint(0, 4)), ("flag",),
+        ("choice", ("a", "ab", "b")), ("just", random.choice([0, 2, 10, True, "a", ""])),
+    ])
+
+
+def random_linked(random):
+    """A random record with members that repeat others or have them as a size; it need not be a schema."""
+    members = []
+    for name in random.choice(["ab", "abc", "abc", "abcd", "abcde", "bcd"]):
+        earlier = [member[0] for member in members]
+        schema = random_source(random)
+        if earlier and random.random() < 0.6:
+            schema = random.choice([("repeat", random.choice(earlier)), ("repeat", random.choice(earlier)),
+                                    ("sized", random_plain(random), random.choice(earlier)),
+                                    ("sized", random_schema(random, 2), random.choice(earlier))])
+        members.append((name, schema, random.random() < 0.8))
+    return ("record", tuple(members))
+
+
+def most_values(schema, members=()):
+    """A number that a schema has at most as many values as."""
+    form = schema[0]
+    if form in ("repeat", "sized"):
+        many = most_values(schema[1]) if form == "sized" else 1
+        return many ** 3 if form == "sized" else 1
+    if form == "list":
+        found = 0
+        for size in range(schema[3], schema[4] + 1):
+            product = 1
+            for part in (list(schema[1]) + [schema[2]] * size)[:size]:
+                product *= most_values(part)
+            found += product
+        return found
+    if form == "record":
+        product = 1
+        for _, part, required in schema[1]:
+            product *= most_values(part) + (not required)
+        return product
+    if form == "either":
+        return sum(most_values(part) for part in schema[1])
+    return len(values_of(schema))
+
+
+def small_schemas(random, many, most=300):
+    """So many random schemas of every form, with at most so many values."""
+    found = []
+    while len(found) < many:
+        schema = random.choice([random_schema(random, 1), random_schema(random, 2), random_schema(random, 3),
+                                random_linked(random), random_linked(random), random_range(random)])
+        if is_schema(schema) and most_values(schema) <= most:
+            found.append(schema)
+        elif is_schema(schema) and schema[0] == "record" and most_values(schema) <= 3 * most:
+            found.append(("list", (), schema, 1, 1))
+    return found
+
+
+def random_range(random):
+    """A random integer schema with at most a few hundred values, near powers of ten and the greatest integers."""
+    low = random.choice([0, 0, 1, 5, 8, 95, 99, 100, 990, 10 ** 9 - 120]) + random.randint(0, 30)
+    high = low + random.randint(0, 90)
+    if random.random() < 0.3:
+        return ("integer", -random.randint(0, 120), random.randint(0, 120))
+    return ("integer", low, high) if random.random() < 0.6 else ("integer", -high, -low)
+
+
+def documents_of(schema):
+    """The documents of all values of a schema, in ascending order."""
+    return sorted(plain_document(value) for value in values_of(schema))
+
+
+def some_prefixes(random, documents, many=3):
+    """All beginnings of some documents, and some of them changed."""
+    found = {""}
+    for document in random.sample(documents, min(many, len(documents))):
+        for cut in range(len(document) + 1):
+            found.add(document[:cut])
+        cut = random.randrange(len(document) + 1)
+        found.add(document[:cut] + random.choice('019-,]}"abft[{: ') + document[cut:])
+        found.add(document[:cut] + document[cut + 1:])
+        found.add(document + random.choice('019-,]}"abft[{: '))
+    return sorted(found)
+
+
+def prefix_refused_at(documents, prefix):
+    """The greatest n such that some document begins with the first n characters of a prefix, or None if with all."""
+    for cut in range(len(prefix)):
+        if not any(document.startswith(prefix[:cut + 1]) for document in documents):
+            return cut
+    return None
 
 
 def random_small_value(random):

@@ -38,6 +38,8 @@ def bound_names(tree):
             bound.add(node.id)
         elif isinstance(node, ast.arg):
             bound.add(node.arg)
+        elif isinstance(node, ast.ExceptHandler) and node.name:
+            bound.add(node.name)
         elif isinstance(node, ast.ImportFrom):
             bound.update(alias.name for alias in node.names)
     return bound
@@ -107,6 +109,39 @@ class Language(unittest.TestCase):
                 word = getattr(node, "id", getattr(node, "attr", getattr(node, "arg", getattr(node, "name", ""))))
                 if isinstance(word, str):
                     self.assertIsNone(BARRED_WORDS.search(word))
+
+    def test_no_variable_has_the_name_of_a_class_or_an_import(self):
+        for path, _, tree in self.each_file():
+            taken = {node.name for node in ast.walk(tree) if isinstance(node, ast.ClassDef)}
+            taken |= {alias.name for node in tree.body if isinstance(node, ast.ImportFrom) for alias in node.names}
+            for node in ast.walk(tree):
+                if isinstance(node, ast.Name) and isinstance(node.ctx, ast.Store):
+                    self.assertNotIn(node.id, taken, path.name)
+                if isinstance(node, ast.arg):
+                    self.assertNotIn(node.arg, taken, path.name)
+                if isinstance(node, ast.ExceptHandler):
+                    self.assertNotIn(node.name, taken, path.name)
+
+    def test_methods_and_attributes(self):
+        for path, _, tree in self.each_file():
+            for own in ast.walk(tree):
+                if isinstance(own, ast.ClassDef):
+                    methods = {node.name for node in own.body if isinstance(node, ast.FunctionDef)}
+                    stored = {node.attr for node in ast.walk(own)
+                              if isinstance(node, ast.Attribute) and isinstance(node.ctx, ast.Store)}
+                    self.assertEqual(methods & stored, set(), path.name)
+                    allowed = {"count", "index", "title", "find", "get", "join", "lower", "upper", "split", "strip",
+                               "copy", "add"}
+                    self.assertEqual(stored & METHODS - allowed, set(), path.name)
+
+    def test_no_generators_and_no_sets_that_are_iterated(self):
+        for path, _, tree in self.each_file():
+            for node in ast.walk(tree):
+                self.assertNotIsInstance(node, (ast.GeneratorExp, ast.Yield, ast.YieldFrom), path.name)
+                if isinstance(node, (ast.For, ast.comprehension)) and isinstance(node.iter, ast.Call):
+                    self.assertNotEqual(getattr(node.iter.func, "id", ""), "set", path.name)
+                if isinstance(node, ast.Compare) and any(isinstance(sign, (ast.Is, ast.IsNot)) for sign in node.ops):
+                    self.assertIsInstance(node.comparators[0], ast.Constant, path.name)
 
     def test_no_two_files_import_from_each_other(self):
         imports = {}
