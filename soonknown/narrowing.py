@@ -8,10 +8,13 @@ from soonknown.values import GREATEST_INTEGER, document, quoted, renewed
 
 def narrow(schema, prefix):
     """Return the pieces of a schema for a prefix: schemas, pairwise apart, of the values that continue the prefix."""
+    return [renewed(piece) for piece in pieces_behind(schema, prefix)]
+
+
+def pieces_behind(schema, prefix):
+    """Return the pieces of a schema for a prefix; they may have parts of the schema."""
     begun = beginning_of(prefix)
-    if begun is None:
-        return []
-    return [renewed(piece) for piece in pieces_of(schema, begun)]
+    return [] if begun is None else pieces_of(schema, begun)
 
 
 def pieces_of(schema, begun):

@@ -3,6 +3,7 @@
 import unittest
 
 from soonknown import errors
+from soonknown.reader import Reader
 
 # Lines of more than 120 characters stand here as they stand in the document.
 STAGE_1 = r"""
@@ -190,6 +191,106 @@ STAGE_5 = r"""
     >>> paths_of(('mixed', ('flag', 'integer')))
     [()]
 """
+STAGE_6 = r"""
+    >>> from soonknown.known import known
+    >>> known(('list', (), ('integer', 0, 12), 0, 3), '[1', limit=5)
+    ('list', 1, 2, (('integer', 1, 12),))
+    >>> schema = ('record', (('a', ('integer', 0, 8), True), ('b', ('sized', ('flag',), 'a'), True), ('c', ('repeat', 'a'), False)))
+    >>> known(schema, '', limit=30)
+    ('record', (('a', 'always', ('integer', 0, 3)), ('b', 'always', ('list', 0, 3, ())), ('c', 'sometimes', ('integer', 0, 2))))
+    >>> schema = ('record', (('a', ('integer', 0, 8), True), ('b', ('sized', ('flag',), 'a'), True), ('c', ('repeat', 'a'), False)))
+    >>> known(schema, '{"a":2,"b":[false,f', limit=30)
+    ('value', {'a': 2, 'b': [False, False]})
+    >>> known(('integer', 5, 25), '1')
+    ('integer', 10, 19)
+    >>> schema = ('record', (('n', ('integer', 0, 3), True), ('x', ('sized', ('integer', 0, 9), 'n'), True)))
+    >>> known(schema, '{"n":2')
+    ('record', (('n', 'always', ('value', 2)), ('x', 'always', ('list', 2, 2, (('integer', 0, 9), ('integer', 0, 9))))))
+    >>> schema = ('record', (('n', ('integer', 0, 3), True), ('x', ('sized', ('integer', 0, 9), 'n'), True)))
+    >>> known(schema, '', limit=14)
+    ('value', {'n': 0, 'x': []})
+    >>> known(('text', '', 'a', 1, 3), '')
+    ('string', 'a', 1, 3)
+    >>> known(('either', (('integer', 0, 9), ('flag',))), '')
+    ('mixed', ('flag', 'integer'))
+    >>> known(('either', (('integer', 0, 9), ('flag',))), '', limit=1)
+    ('integer', 0, 9)
+    >>> known(('flag',), 'x')
+    raises BadPrefix(0)
+"""
+STAGE_7 = r"""
+    >>> from soonknown.reader import Reader
+    >>> reader = Reader(('record', (('a', ('integer', 0, 3), False), ('b', ('flag',), True))))
+    >>> reader.feed('{"b')
+    [((), ('record', (('b', 'always', ('flag',)),))), (('a',), None)]
+    >>> reader = Reader(('choice', ('green', 'grey', 'red')))
+    >>> reader.feed('"g')
+    [((), ('string', 'gre', 4, 5))]
+    >>> reader = Reader(('choice', ('green', 'grey', 'red')))
+    >>> events = reader.feed('"gree')
+    >>> [events[-1], reader.settled_at(()), reader.value()]
+    [((), ('value', 'green')), 5, None]
+    >>> Reader(('integer', 0, 25)).feed('31')
+    raises NotOffered(1)
+    >>> Reader(('flag',), limit=3)
+    raises NoRoom(4)
+    >>> reader = Reader(('flag',))
+    >>> events = reader.feed('tr')
+    >>> other = reader.fork()
+    >>> nothing = other.back(1)
+    >>> [reader.text(), other.text(), reader == other, len(other)]
+    ['tr', 't', False, 1]
+    >>> Reader(('flag',)).back(2)
+    raises TooFar(2)
+    >>> Reader(('list', (), ('integer', 0, 9), 0, 3)).with_limit(4).known()
+    ('list', 0, 1, ())
+"""
+STAGE_8 = r"""
+    >>> from soonknown.automata import automaton
+    >>> automaton(('integer', 8, 11))
+    [(False, (('1', 1), ('8', 2), ('9', 2))), (False, (('0', 2), ('1', 2))), (True, ())]
+    >>> automaton(('integer', 0, 99), bound=2)
+    raises TooManyStates(2)
+    >>> from soonknown.automata import accepts, automaton
+    >>> [accepts(automaton(('integer', 8, 11)), '10'), accepts(automaton(('integer', 8, 11)), '1')]
+    [True, False]
+    >>> from soonknown.automata import outside
+    >>> [outside(('integer', 0, 12), ('integer', 0, 9)), outside(('integer', 0, 9), ('integer', 0, 12))]
+    ['10', None]
+    >>> from soonknown.automata import equal
+    >>> equal(('flag',), ('either', (('just', False), ('just', True))))
+    True
+"""
+STAGE_9 = r"""
+    >>> from soonknown.certificates import is_witness
+    >>> is_witness(('integer', 0, 9), '', (), (3, 4))
+    True
+    >>> is_witness(('integer', 0, 9), '', (), (3, 3))
+    False
+    >>> is_witness(('list', (), ('flag',), 0, 1), '', (0,), ([], [True]))
+    True
+    >>> is_witness(('list', (), ('flag',), 0, 1), '', (0,), ([], [True]), limit=5)
+    False
+    >>> from soonknown.certificates import witness
+    >>> witness(('just', 5), '', ())
+    None
+    >>> from soonknown.certificates import is_witness, witness
+    >>> pair = witness(('integer', 0, 9), '', ())
+    >>> is_witness(('integer', 0, 9), '', (), pair)
+    True
+    >>> schema = ('record', (('a', ('integer', 0, 3), True), ('b', ('repeat', 'a'), True)))
+    >>> witness(schema, '{"a":2', ('b',))
+    None
+    >>> from soonknown.certificates import check_cover
+    >>> check_cover(('integer', 0, 25), '1', [('just', 1), ('integer', 10, 19)])
+    True
+    >>> check_cover(('integer', 0, 25), '1', [('integer', 10, 19)])
+    False
+    >>> check_cover(('flag',), '', [('just', True), ('just', False)])
+    True
+    >>> check_cover(('integer', 0, 9), 'x', [])
+    True
+"""
 
 
 def outcome(source, names):
@@ -233,6 +334,34 @@ class Examples(unittest.TestCase):
 
     def test_stage_5(self):
         self.assertEqual(self.run_examples(STAGE_5), 23)
+
+    def test_stage_6(self):
+        self.assertEqual(self.run_examples(STAGE_6), 10)
+
+    def test_stage_7(self):
+        self.assertEqual(self.run_examples(STAGE_7), 8)
+
+    def test_stage_8(self):
+        self.assertEqual(self.run_examples(STAGE_8), 5)
+
+    def test_stage_9(self):
+        self.assertEqual(self.run_examples(STAGE_9), 11)
+
+    def test_the_example_of_the_overview(self):
+        size = ("integer", 0, 8)
+        schema = ("record", (("a", size, True), ("b", ("sized", ("flag",), "a"), True), ("c", ("repeat", "a"), False)))
+        reader = Reader(schema, limit=30)
+        self.assertEqual(reader.known(), ("record", (
+            ("a", "always", ("integer", 0, 3)), ("b", "always", ("list", 0, 3, ())),
+            ("c", "sometimes", ("integer", 0, 2)))))
+        self.assertEqual(reader.feed('{"a":2,"b":[')[-1][0], ("c",))
+        before = reader.known()
+        self.assertEqual(before[1][2], ("c", "sometimes", ("value", 2)))
+        # A letter inside b settles that c cannot come: if both items are false, there is no room for it.
+        self.assertEqual([event for event in reader.feed("false,") if event[0] == ("c",)], [])
+        self.assertEqual([event for event in reader.feed("f") if event[0] == ("c",)], [(("c",), None)])
+        self.assertEqual(reader.known(), ("value", {"a": 2, "b": [False, False]}))
+        self.assertEqual(reader.offered(), ["a"])
 
 
 if __name__ == "__main__":
