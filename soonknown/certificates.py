@@ -2,7 +2,7 @@
 
 from soonknown.contrasts import Contrasts, combined, differ
 from soonknown.grammar import Grammar
-from soonknown.narrowing import pieces_behind
+from soonknown.narrowing import narrowed
 from soonknown.overlaps import Overlaps
 from soonknown.prefixes import begin
 from soonknown.schemas import apart, fits, is_schema
@@ -16,7 +16,7 @@ def witness(schema, prefix, path, *, limit=None):
         return None
     grammar = Grammar()
     contrasts = Contrasts(grammar)
-    pieces = pieces_behind(schema, prefix)
+    pieces = narrowed((schema,), prefix)
     triple = combined([contrasts.contrasts(grammar.part_of(piece), path) for piece in pieces], path)
     without, first, second = triple
     if first is None or is_beyond(first, limit):
@@ -51,7 +51,7 @@ def check_cover(schema, prefix, pieces):
         return False
     grammar = Grammar()
     overlaps = Overlaps(grammar)
-    wanted = [grammar.part_of(piece) for piece in pieces_behind(schema, prefix)]
+    wanted = [grammar.part_of(piece) for piece in narrowed((schema,), prefix)]
     given = [grammar.part_of(piece) for piece in pieces]
     # No value has two of the pieces. So it is enough that as many have them, and that each one of these is wanted.
     if sum([overlaps.size(part) for part in given]) != sum([overlaps.size(part) for part in wanted]):

@@ -57,6 +57,7 @@ class Contrasts:
     def __init__(self, grammar):
         self.grammar = grammar
         self.lengths = Lengths(grammar, False)
+        self.kept = {}
 
     def contrasts(self, number, path):
         """Return (without, first, second) for a path and the values of a part.
@@ -155,6 +156,12 @@ class Contrasts:
 
     def two(self, number):
         """Return a shortest value of a part, and a shortest one of the others or None."""
+        if number not in self.kept:
+            self.kept[number] = self.worked_out(number)
+        return self.kept[number]
+
+    def worked_out(self, number):
+        """Return what two returns for a part that has not been kept yet."""
         part = self.grammar.parts[number]
         if part[0] == "record":
             return self.two_records(part[1])

@@ -8,13 +8,13 @@ from soonknown.values import GREATEST_INTEGER, document, quoted, renewed
 
 def narrow(schema, prefix):
     """Return the pieces of a schema for a prefix: schemas, pairwise apart, of the values that continue the prefix."""
-    return [renewed(piece) for piece in pieces_behind(schema, prefix)]
+    return [renewed(piece) for piece in narrowed((schema,), prefix)]
 
 
-def pieces_behind(schema, prefix):
-    """Return the pieces of a schema for a prefix; they may have parts of the schema."""
+def narrowed(schemas, prefix):
+    """Return the pieces of schemas that are pairwise apart for a prefix; they may have parts of the schemas."""
     begun = beginning_of(prefix)
-    return [] if begun is None else pieces_of(schema, begun)
+    return [] if begun is None else pieces_of_all(schemas, begun)
 
 
 def pieces_of(schema, begun):

@@ -1,9 +1,11 @@
 """A reader: it is fed a document, and tells what is known of it after each character."""
 
 from soonknown.completions import is_complete, offered
-from soonknown.errors import BadPrefix, NoRoom, NotOffered, TooFar
+from soonknown.errors import NotOffered, TooFar
 from soonknown.knowledge import led_to, parts_of
-from soonknown.known import known
+from soonknown.known import known_of
+from soonknown.narrowing import narrowed
+from soonknown.prefixes import begin
 from soonknown.values import read_document, renewed, written
 
 
@@ -30,12 +32,14 @@ class Reader:
 
     def __init__(self, schema, *, limit=None):
         self._schema = renewed(schema)
-        self._limit = limit
-        self._text = ""
-        # Nothing of it is handed out, so that it stays as it is.
-        self._knowledge = known(self._schema, "", limit=limit)
         # Two schemas are the same exactly if these texts are.
         self._schema_text = written(self._schema)
+        self._limit = limit
+        begin(self._schema, "", limit)
+        # Nothing of the pieces and the knowledge is handed out, so that they stay as they are.
+        self._text = ""
+        self._pieces = [self._schema]
+        self._knowledge = known_of(self._pieces, limit)
 
     def __eq__(self, other):
         if not isinstance(other, Reader):
@@ -51,29 +55,33 @@ class Reader:
         """Read the characters of a text and return the events of all of them."""
         events = []
         read = self._text
+        pieces = self._pieces
         before = self._knowledge
         for sign in text:
-            after = self.knowledge_after(read, sign)
-            events.extend(events_between((), before, after))
             read = read + sign
+            # What is left of the pieces is left of the schema, and they are mostly less than the schema.
+            pieces = narrowed(pieces, read)
+            after = known_of(pieces, self._limit)
+            if after is None:
+                raise NotOffered(len(read) - 1)
+            events.extend(events_between((), before, after))
             before = after
         self._text = read
+        self._pieces = pieces
         self._knowledge = before
         return events
-
-    def knowledge_after(self, read, sign):
-        """Return the knowledge after a text that may be read and a character more."""
-        try:
-            return known(self._schema, read + sign, limit=self._limit)
-        except (BadPrefix, NoRoom):
-            raise NotOffered(len(read)) from None
 
     def back(self, number):
         """Take the last characters back."""
         if number > len(self._text):
             raise TooFar(number)
-        self._text = self._text[:len(self._text) - number]
-        self._knowledge = known(self._schema, self._text, limit=self._limit)
+        self.set_text(self._text[:len(self._text) - number])
+
+    def set_text(self, text):
+        """Make a text that has completions the text that has been read."""
+        self._text = text
+        self._pieces = narrowed((self._schema,), text)
+        self._knowledge = known_of(self._pieces, self._limit)
 
     def text(self):
         """Return the text that has been read."""
@@ -101,10 +109,9 @@ class Reader:
 
     def with_limit(self, limit):
         """Return a new reader with the same schema and text and another limit."""
-        knowledge = known(self._schema, self._text, limit=limit)
+        begin(self._schema, self._text, limit)
         reader = Reader(self._schema, limit=limit)
-        reader._text = self._text
-        reader._knowledge = knowledge
+        reader.set_text(self._text)
         return reader
 
     def settled_at(self, path):
@@ -119,7 +126,8 @@ class Reader:
         high = len(self._text)
         while low < high:
             middle = (low + high) // 2
-            if is_settled(known(self._schema, self._text[:middle], limit=self._limit), path):
+            pieces = narrowed((self._schema,), self._text[:middle])
+            if is_settled(known_of(pieces, self._limit), path):
                 high = middle
             else:
                 low = middle + 1

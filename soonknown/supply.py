@@ -13,6 +13,7 @@ class Supply:
         self.tallies = Tallies(ways.grammar, limit)
         self.kept_spots = {}
         self.kept_rests = {}
+        self.kept_rows = {}
 
     def many(self, spots, read):
         """Return how many documents go on from some spots, if so many characters have been read."""
@@ -44,10 +45,15 @@ class Supply:
         key = (rest, room)
         if key not in self.kept_rests:
             part, behind = self.ways.rests[rest]
-            row = self.tallies.row(part)[:room + 1]
-            found = [many * self.many_behind(behind, room - at) for at, many in enumerate(row) if many]
+            found = [many * self.many_behind(behind, room - size) for size, many in self.row(part) if size <= room]
             self.kept_rests[key] = sum(found)
         return self.kept_rests[key]
+
+    def row(self, part):
+        """Return pairs of a length and how many texts of it a part has, where there are any."""
+        if part not in self.kept_rows:
+            self.kept_rows[part] = [(size, many) for size, many in enumerate(self.tallies.row(part)) if many > 0]
+        return self.kept_rows[part]
 
     def pairs(self, spot):
         """Return pairs of a length and how many texts of it there are up to the end of the value at a spot."""
@@ -65,9 +71,6 @@ class Supply:
         if form == "ended":
             return [(0, 1)]
         if form == "name":
-            return self.pairs_of_part(spot[2], len(spot[1]))
-        return self.pairs_of_part(spot[1], -1 if form == "opened" else 0)
-
-    def pairs_of_part(self, part, more):
-        """Return pairs of the length of a value of a part, with so many characters more, and how many there are."""
-        return [(at + more, many) for at, many in enumerate(self.tallies.row(part)) if many]
+            return [(len(spot[1]) + size, many) for size, many in self.row(spot[2])]
+        # The first bracket of a list or a record has been read.
+        return [(size - 1, many) for size, many in self.row(spot[1])] if form == "opened" else self.row(spot[1])
