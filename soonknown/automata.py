@@ -11,11 +11,11 @@ NOWHERE = -1
 class Place:
     """A list of spots on the way through all documents, with what has been found out about it."""
 
-    def __init__(self, key, accepting, moves):
-        self.key = key
+    def __init__(self, told, accepting, later):
+        self.told = told
         self.accepting = accepting
-        # (character, key, spots) for each character that may come.
-        self.moves = moves
+        # (character, key of the spots, spots) for each character that may come.
+        self.later = later
         # (character, state) for those of them that have been followed.
         self.steps = []
 
@@ -58,11 +58,11 @@ class Builder:
         waiting = [self.place(key, spots)]
         while waiting:
             place = waiting[-1]
-            if len(place.steps) == len(place.moves):
-                self.kept[place.key] = self.state(place)
+            if len(place.steps) == len(place.later):
+                self.kept[place.told] = self.state(place)
                 waiting.pop()
             else:
-                sign, later, more = place.moves[len(place.steps)]
+                sign, later, more = place.later[len(place.steps)]
                 if later in self.kept:
                     place.steps.append((sign, self.kept[later]))
                 else:
@@ -85,7 +85,7 @@ def automaton(schema, *, bound=2000):
     """Return the automaton of a schema: a list of (accepting, steps), a step being (character, next state)."""
     ways, spots = start(schema)
     # Behind each character of the longest document there is another state: this spares building far too much.
-    if Lengths(ways.grammar, True).length(spots[0][1]) >= bound:
+    if Lengths(ways.grammar, True).of(spots[0][1]) >= bound:
         raise TooManyStates(bound)
     builder = Builder(ways, bound)
     return renumbered(builder.states, builder.build(spots))

@@ -17,40 +17,34 @@ from soonknown.values import GREATEST_DEPTH, is_whole, read_value
 
 def beginning_of(text):
     """Return the beginning that a text is, or None if no document begins with it."""
-    # The readers ask for the character behind the last one; no document contains a space.
-    return beginning_at(text + " ", 0, GREATEST_DEPTH)
-
-
-def beginning_at(padded, at, depth):
-    """Return the beginning from an index to the space at the end, of a value of at most this depth, or None."""
-    end = len(padded) - 1
-    text = padded[at:end]
+    # The reader asks for the character behind the last one; no document contains a space.
+    padded = text + " "
     try:
-        value, behind = read_value(padded, at, depth)
+        value, behind = read_value(padded, 0, GREATEST_DEPTH)
     except BadDocument as wrong:
-        return unfinished(padded, at, depth) if wrong.position == end else None
-    if behind < end:
+        return unfinished(padded, 0) if wrong.position == len(text) else None
+    if behind < len(text):
         return None
     return ("begun", text) if is_whole(value) else ("whole", text, value)
 
 
-def unfinished(padded, at, depth):
-    """Return the beginning from an index on if its value is not at its end."""
+def unfinished(padded, at):
+    """Return the beginning from an index to the space at the end, where a value has not come to its end."""
     if padded[at] == "[":
-        return unfinished_list(padded, at, depth)
+        return unfinished_list(padded, at)
     if padded[at] == "{":
-        return unfinished_record(padded, at, depth)
+        return unfinished_record(padded, at)
     return ("begun", padded[at:-1])
 
 
-def unfinished_list(padded, at, depth):
-    """Return the beginning from an index on that is of a list."""
+def unfinished_list(padded, at):
+    """Return the same as unfinished for a list."""
     end = len(padded) - 1
     items = []
     last = None
     place = at + 1
     while place < end:
-        item, behind, last = next_value(padded, place, depth - 1)
+        item, behind, last = next_value(padded, place)
         if last is not None:
             break
         items.append(item)
@@ -61,8 +55,8 @@ def unfinished_list(padded, at, depth):
     return ("list", padded[at:end], items, last)
 
 
-def unfinished_record(padded, at, depth):
-    """Return the beginning from an index on that is of a record."""
+def unfinished_record(padded, at):
+    """Return the same as unfinished for a record."""
     end = len(padded) - 1
     members = {}
     name = None
@@ -74,7 +68,7 @@ def unfinished_record(padded, at, depth):
             name = padded[place:end]
             break
         name = padded[place:colon + 1]
-        value, behind, last = next_value(padded, colon + 1, depth - 1)
+        value, behind, last = next_value(padded, colon + 1)
         if last is not None:
             break
         members[name[1:-2]] = value
@@ -86,13 +80,14 @@ def unfinished_record(padded, at, depth):
     return ("record", padded[at:end], members, name, last)
 
 
-def next_value(padded, at, depth):
+def next_value(padded, at):
     """Return a whole value at an index, the index behind it and None; or None twice and what has begun there."""
     end = len(padded) - 1
     try:
-        value, behind = read_value(padded, at, depth)
+        # The depth has been looked at when the whole text was read.
+        value, behind = read_value(padded, at, GREATEST_DEPTH)
     except BadDocument:
-        return None, None, unfinished(padded, at, depth)
+        return None, None, unfinished(padded, at)
     if behind == end and is_whole(value):
         return None, None, ("begun", padded[at:end])
     return value, behind, None

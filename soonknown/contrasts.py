@@ -146,7 +146,7 @@ class Contrasts:
         if part[0] == "record":
             return self.shortest_record(part[1])
         for alternative in part[1]:
-            if self.lengths.length(alternative) == self.lengths.length(number):
+            if self.lengths.of(alternative) == self.lengths.of(number):
                 return self.shortest(alternative)
         return None
 

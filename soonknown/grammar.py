@@ -24,7 +24,7 @@ class Grammar:
         self.parts = []
         self.numbers = {}
 
-    def number(self, part):
+    def numbered(self, part):
         """Return the number of a part; equal parts have the same one."""
         if part not in self.numbers:
             self.numbers[part] = len(self.parts)
@@ -35,21 +35,21 @@ class Grammar:
         """Return the number of the part that a schema is."""
         form = schema[0]
         if form == "flag":
-            return self.number(("words", ("false", "true")))
+            return self.numbered(("words", ("false", "true")))
         if form == "choice":
-            return self.number(("words", tuple([quoted(word) for word in schema[1]])))
+            return self.numbered(("words", tuple([quoted(word) for word in schema[1]])))
         if form == "just":
             return self.part_of_value(schema[1])
         if form == "list":
             return self.part_of_list(schema)
         if form == "record":
             members = [(name, self.part_of(part), required) for name, part, required in schema[1]]
-            return self.number(("record", self.with_single_sources(members)))
+            return self.numbered(("record", self.with_single_sources(members)))
         if form == "sized":
-            return self.number(("sized", self.part_of(schema[1]), schema[2]))
+            return self.numbered(("sized", self.part_of(schema[1]), schema[2]))
         if form == "either":
-            return self.number(("either", tuple([self.part_of(part) for part in schema[1]])))
-        return self.number(schema)
+            return self.numbered(("either", tuple([self.part_of(part) for part in schema[1]])))
+        return self.numbered(schema)
 
     def part_of_value(self, value):
         """Return the number of the part that has one value."""
@@ -58,14 +58,14 @@ class Grammar:
             return self.row("list", leading, NONE, len(leading), len(leading))
         if isinstance(value, dict):
             members = [(name, self.part_of_value(value[name]), True) for name in sorted(value)]
-            return self.number(("record", tuple(members)))
+            return self.numbered(("record", tuple(members)))
         return self.part_of_document(document(value))
 
     def part_of_document(self, text):
         """Return the number of the part that has the one integer, flag or string with a document."""
         if text[0] in "tf" or text[0] == '"':
-            return self.number(("words", (text,)))
-        return self.number(("integer", int(text), int(text)))
+            return self.numbered(("words", (text,)))
+        return self.numbered(("integer", int(text), int(text)))
 
     def part_of_list(self, schema):
         """Return the number of the part that a list schema is."""
@@ -81,7 +81,7 @@ class Grammar:
             item = parts[-1] if parts else NONE
         while parts and parts[-1] == item:
             parts.pop()
-        return self.number((form, tuple(parts), item, least, greatest))
+        return self.numbered((form, tuple(parts), item, least, greatest))
 
     def with_single_sources(self, members):
         """Return members, as a tuple, without repeats and sizes of a member that has but one value."""
@@ -159,10 +159,10 @@ class Grammar:
             later = members[at + 1:]
             if self.is_source(later, name):
                 for value in self.documents_of(part):
-                    rest = self.number(("members", self.with_value(later, name, value)))
+                    rest = self.numbered(("members", self.with_value(later, name, value)))
                     found.append((text + value, NONE, rest))
             else:
-                found.append((text, part, self.number(("members", later))))
+                found.append((text, part, self.numbered(("members", later))))
             if required:
                 break
         return found

@@ -34,13 +34,13 @@ class Outlook:
 
     def __init__(self, grammar):
         self.grammar = grammar
-        self.shortest = Lengths(grammar, False)
-        self.longest = Lengths(grammar, True)
+        self.lengths = Lengths(grammar, False)
+        self.most_lengths = Lengths(grammar, True)
         self.kept = {}
 
     def knowledge(self, number, room):
         """Return the knowledge of the values of a part that have at most so many characters; there is one."""
-        key = (number, min(room, self.longest.length(number)))
+        key = (number, min(room, self.most_lengths.of(number)))
         if key not in self.kept:
             self.kept[key] = self.worked_out(self.grammar.parts[number], number, key[1])
         return self.kept[key]
@@ -64,7 +64,7 @@ class Outlook:
         """Return the knowledge of the values of some parts that have at most so many characters; there is one."""
         found = None
         for number in numbers:
-            if self.shortest.length(number) <= room:
+            if self.lengths.of(number) <= room:
                 more = self.knowledge(number, room)
                 found = more if found is None else joined(found, more)
         return found
@@ -72,16 +72,16 @@ class Outlook:
     def known_list(self, number, room):
         """Return the knowledge of the lists of a part that have at most so many characters."""
         _, _, _, least, greatest = self.grammar.parts[number]
-        spare = room - self.shortest.length(number)
+        spare = room - self.lengths.of(number)
         items = []
         for at in range(least):
             item = self.grammar.item_at(number, at)
-            items.append(self.knowledge(item, self.shortest.length(item) + spare))
+            items.append(self.knowledge(item, self.lengths.of(item) + spare))
         longest = least
         # The first item of all takes one character more, as the rest of them do: it is no matter which bracket it is.
-        left = room - 1 - self.shortest.items_length(number)
+        left = room - 1 - self.lengths.items_length(number)
         while longest < greatest:
-            left = left - 1 - self.shortest.length(self.grammar.item_at(number, longest))
+            left = left - 1 - self.lengths.of(self.grammar.item_at(number, longest))
             if left < 0:
                 break
             longest += 1
@@ -91,13 +91,13 @@ class Outlook:
 
     def known_record(self, members, room):
         """Return the knowledge of the records of some members that have at most so many characters."""
-        rows = self.rows(members, room - 1 - self.shortest.members_length(members))
+        rows = self.rows_of(members, room - 1 - self.lengths.members_length(members))
         found = [(name, rows[name][0], rows[name][1]) for name in sorted(rows)]
         if are_single([row[2] for row in found]) and [row for row in found if row[1] != "always"] == []:
             return ("value", {row[0]: row[2][1] for row in found})
         return ("record", tuple(found))
 
-    def rows(self, members, spare):
+    def rows_of(self, members, spare):
         """Return a dict from the names that may occur to (presence, knowledge).
 
         So many characters are left over if each required member has its shortest value.
@@ -108,7 +108,7 @@ class Outlook:
             if dependents != ():
                 found.update(self.rows_of_source(name, number, dependents, spare))
             elif self.grammar.source_of(number) == "":
-                least = self.shortest.length(number)
+                least = self.lengths.of(number)
                 left = spare if required else spare - 1 - name_length(name) - least
                 if left >= 0:
                     found[name] = ("always" if required else "sometimes", self.knowledge(number, least + left))
@@ -118,12 +118,12 @@ class Outlook:
         """Return the rows of a member and of those that depend on it."""
         values = []
         found = {}
-        room = spare + self.shortest.value_length(name, number, dependents)
+        room = spare + self.lengths.value_length(name, number, dependents)
         for text in self.grammar.documents_of(number):
-            left = room - self.shortest.length_with(name, text, dependents)
+            left = room - self.lengths.length_with(name, text, dependents)
             if left >= 0:
                 values.append(read_document(text))
-                for other, row in self.rows(self.grammar.with_value(dependents, name, text), left).items():
+                for other, row in self.rows_of(self.grammar.with_value(dependents, name, text), left).items():
                     found[other] = (row[0], joined(found[other][1], row[1])) if other in found else row
         found[name] = ("always", knowledge_of(values))
         return found

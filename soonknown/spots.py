@@ -227,7 +227,7 @@ class Spots:
         """Return the least number of characters up to the end of the value that is being read."""
         form = spot[0]
         if form == "value":
-            return self.lengths.length(spot[1])
+            return self.lengths.of(spot[1])
         if form == "word":
             return len(spot[1])
         if form == "words":
@@ -237,13 +237,13 @@ class Spots:
         if form == "digits":
             return min([row[0] for row in spot[1]])
         if form == "name":
-            return len(spot[1]) + self.lengths.length(spot[2])
-        return self.lengths.length(spot[1]) - 1 if form == "opened" else 0
+            return len(spot[1]) + self.lengths.of(spot[2])
+        return self.lengths.of(spot[1]) - 1 if form == "opened" else 0
 
     def shortest_behind(self, rest):
         """Return the least number of characters of a rest and those behind it."""
         found = 0
         while rest != END:
             part, rest = self.rests[rest]
-            found = found + self.lengths.length(part)
+            found = found + self.lengths.of(part)
         return found

@@ -63,15 +63,15 @@ class Tallies:
     def __init__(self, grammar, limit):
         self.grammar = grammar
         self.limit = limit
-        self.size = 1 if limit is None else limit + 1
-        self.rows = {}
-        self.bodies = {}
+        self.width = 1 if limit is None else limit + 1
+        self.kept_rows = {}
+        self.kept_bodies = {}
 
     def row(self, number):
         """Return the row of a part; for a rest without what stands behind its container."""
-        if number not in self.rows:
-            self.rows[number] = self.worked_out(self.grammar.parts[number], number)
-        return self.rows[number]
+        if number not in self.kept_rows:
+            self.kept_rows[number] = self.worked_out(self.grammar.parts[number], number)
+        return self.kept_rows[number]
 
     def worked_out(self, part, number):
         """Return the row of a part that has not been kept yet."""
@@ -95,16 +95,16 @@ class Tallies:
 
     def row_of(self, pairs):
         """Return the row of pairs of a length and a number of texts."""
-        found = [0] * self.size
+        found = [0] * self.width
         for size, many in pairs:
             at = 0 if self.limit is None else size
-            if at < self.size:
+            if at < self.width:
                 found[at] += many
         return found
 
     def moved(self, row, length):
         """Return the row of the texts of a row with so many characters more."""
-        return row if self.limit is None else ([0] * length + row)[:self.size]
+        return row if self.limit is None else ([0] * length + row)[:self.width]
 
     def container(self, number):
         """Return the row of a list or a record."""
@@ -117,11 +117,11 @@ class Tallies:
 
     def body(self, number):
         """Return the row of what stands in a container, with one character more for each item or member."""
-        if number not in self.bodies:
+        if number not in self.kept_bodies:
             part = self.grammar.parts[number]
             is_list = part[0] == "list" or part[0] == "items"
-            self.bodies[number] = self.items_body(number) if is_list else self.members_body(part[1])
-        return self.bodies[number]
+            self.kept_bodies[number] = self.items_body(number) if is_list else self.members_body(part[1])
+        return self.kept_bodies[number]
 
     def items_body(self, number):
         """Return the body of a list or of the rest of one."""
@@ -129,7 +129,7 @@ class Tallies:
         if self.grammar.parts[number][4] == 0:
             return found
         item = self.moved(self.row(self.grammar.head(number)), 1)
-        return total(found, times(item, self.body(self.grammar.behind(number)), self.size))
+        return total(found, times(item, self.body(self.grammar.behind(number)), self.width))
 
     def members_body(self, members):
         """Return the body of members."""
@@ -138,8 +138,8 @@ class Tallies:
         first = self.first_to_count(members)
         dependents = self.grammar.dependents(members, first[0])
         others = tuple([member for member in members if member != first and member not in dependents])
-        rest = self.body(self.grammar.number(("members", others)))
-        return times(self.member_row(first, dependents), rest, self.size)
+        rest = self.body(self.grammar.numbered(("members", others)))
+        return times(self.member_row(first, dependents), rest, self.width)
 
     def first_to_count(self, members):
         """Return the member that is counted first: one that depended on a value that is known now, if there is one.
@@ -166,6 +166,6 @@ class Tallies:
             found = self.moved(self.row(number), 1 + name_length(name))
         else:
             for text in self.grammar.documents_of(number):
-                others = self.grammar.number(("members", self.grammar.with_value(dependents, name, text)))
+                others = self.grammar.numbered(("members", self.grammar.with_value(dependents, name, text)))
                 found = total(found, self.moved(self.body(others), 1 + name_length(name) + len(text)))
         return found if required else total(found, [1])

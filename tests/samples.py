@@ -1,5 +1,6 @@
 """What several tests need: slow but plain ways to the same answers, and random schemas and values."""
 
+import bisect
 import itertools
 import json
 import re
@@ -246,6 +247,7 @@ def random_source(random):
     low = random.choice([0, 0, 1, 8, 9, -2, 98])
     return random.choice([
         ("integer", 0, random.randint(0, 3)), ("integer", low, low + random.randint(0, 4)), ("flag",),
+        random.choice([("integer", 0, 12), ("integer", 1, 10), ("integer", -11, -1), ("integer", -2, 10)]),
         ("choice", ("a", "ab", "b")), ("just", random.choice([0, 2, 10, True, "a", ""])),
     ])
 
@@ -264,12 +266,9 @@ def random_linked(random):
     return ("record", tuple(members))
 
 
-def most_values(schema, members=()):
+def most_values(schema):
     """A number that a schema has at most as many values as."""
     form = schema[0]
-    if form in ("repeat", "sized"):
-        many = most_values(schema[1]) if form == "sized" else 1
-        return many ** 3 if form == "sized" else 1
     if form == "list":
         found = 0
         for size in range(schema[3], schema[4] + 1):
@@ -280,8 +279,14 @@ def most_values(schema, members=()):
         return found
     if form == "record":
         product = 1
+        sources = {name: part for name, part, _ in schema[1]}
         for _, part, required in schema[1]:
-            product *= most_values(part) + (not required)
+            many = 1
+            if part[0] == "sized":
+                many = sum(most_values(part[1]) ** size for size in values_of(sources[part[2]]))
+            elif part[0] != "repeat":
+                many = most_values(part)
+            product *= many + (not required)
         return product
     if form == "either":
         return sum(most_values(part) for part in schema[1])
@@ -315,6 +320,9 @@ def documents_of(schema):
     return sorted(plain_document(value) for value in values_of(schema))
 
 
+SIGNS = '019-,]}"abft[{: '
+
+
 def some_prefixes(random, documents, many=3):
     """All beginnings of some documents, and some of them changed."""
     found = {""}
@@ -322,17 +330,36 @@ def some_prefixes(random, documents, many=3):
         for cut in range(len(document) + 1):
             found.add(document[:cut])
         cut = random.randrange(len(document) + 1)
-        found.add(document[:cut] + random.choice('019-,]}"abft[{: ') + document[cut:])
+        found.add(document[:cut] + random.choice(SIGNS) + document[cut:])
         found.add(document[:cut] + document[cut + 1:])
-        found.add(document + random.choice('019-,]}"abft[{: '))
+        found.add(document + random.choice(SIGNS))
+        found.add(random.choice(SIGNS))
+        found.update(with_other_words(random, document))
     return sorted(found)
 
 
+def with_other_words(random, document):
+    """Beginnings of a document with another integer, flag, string or name in it."""
+    words = list(re.finditer('-?[0-9]+|true|false|"[a-z]*"', document))
+    found = set()
+    for word in random.sample(words, min(2, len(words))):
+        other = random.choice(["0", "1", "2", "-1", "12", "true", "false", '""', '"a"', '"b"', '"ab"', "[]", "{}"])
+        if document[word.end():word.end() + 1] == ":":
+            other = random.choice(['"a"', '"b"', '"c"', '"d"', '"aa"'])
+        changed = document[:word.start()] + other + document[word.end():]
+        found |= {changed, changed[:word.start() + len(other)], changed[:random.randint(0, len(changed))]}
+    return found
+
+
 def prefix_refused_at(documents, prefix):
-    """The greatest n such that some document begins with the first n characters of a prefix, or None if with all."""
-    for cut in range(len(prefix)):
-        if not any(document.startswith(prefix[:cut + 1]) for document in documents):
-            return cut
+    """The greatest n such that some document begins with the first n characters of a prefix, or None if with all.
+
+    The documents are in ascending order.
+    """
+    for cut in range(1, len(prefix) + 1):
+        at = bisect.bisect_left(documents, prefix[:cut])
+        if not documents[at:at + 1] or not documents[at].startswith(prefix[:cut]):
+            return cut - 1
     return None
 
 

@@ -14,12 +14,22 @@ GREATEST = 10 ** 9
 
 
 class Known(unittest.TestCase):
+    def setUp(self):
+        self.kept = {}
+
+    def knowledge_of(self, values):
+        """The knowledge of the values of a dict from documents, kept as many prefixes have the same ones."""
+        key = " ".join(values)
+        if key not in self.kept:
+            self.kept[key] = exact(knowledge_of(list(values.values())))
+        return self.kept[key]
+
     def check(self, schema, values, prefix, limit):
         """Compare the knowledge for values, a dict from the documents that go on from the prefix."""
-        fitting = [value for document, value in values.items() if limit is None or len(document) <= limit]
+        fitting = {document: values[document] for document in values if limit is None or len(document) <= limit}
         if fitting:
             found = known(schema, prefix, limit=limit)
-            self.assertEqual(exact(found), exact(knowledge_of(fitting)), (schema, prefix, limit))
+            self.assertEqual(exact(found), self.knowledge_of(fitting), (schema, prefix, limit))
             return found
         with self.assertRaises(NoRoom) as caught:
             known(schema, prefix, limit=limit)
@@ -39,6 +49,7 @@ class Known(unittest.TestCase):
             before = self.check(schema, going_on, prefix, None)
             # From the longest one on to the first limit that is too small.
             limits = {length - less for length in lengths for less in (0, 1)} | {lengths[0] + 3}
+            limits = {lengths[0], lengths[0] - 1} | set(source.sample(sorted(limits), min(len(limits), 10)))
             for limit in sorted(limits, reverse=True):
                 after = self.check(schema, going_on, prefix, limit)
                 if after is not None:
@@ -53,10 +64,11 @@ class Known(unittest.TestCase):
 
     def test_small_schemas_of_every_form(self):
         source = random.Random(71)
-        for schema in samples.small_schemas(source, 200, 80):
+        for schema in samples.small_schemas(source, 500, 60):
             self.check_schema(source, schema, None)
-        for schema in samples.small_schemas(source, 25, 400):
-            self.check_schema(source, schema, None)
+        for schema in samples.small_schemas(source, 60, 250):
+            prefixes = samples.some_prefixes(source, samples.documents_of(schema), 1)
+            self.check_schema(source, schema, source.sample(prefixes, min(len(prefixes), 12)))
 
     def test_sizes_and_repeated_members(self):
         number = ("integer", 7, 12)
@@ -145,7 +157,8 @@ class Known(unittest.TestCase):
 
     def test_what_is_returned_can_be_changed(self):
         inner = [1, {"a": []}]
-        for schema in (("list", (), ("just", inner), 2, 2), ("list", (), ("either", (("just", inner), ("flag",))), 1, 2),
+        either = ("either", (("just", inner), ("flag",)))
+        for schema in (("list", (), ("just", inner), 2, 2), ("list", (), either, 1, 2),
                        ("record", (("a", ("just", inner), True), ("b", ("just", inner), False)))):
             before = copy.deepcopy(schema)
             for prefix in ("", '[[1,{"a":[]}]', "[[1", '{"a":[1'):

@@ -33,7 +33,7 @@ class Narrowing(unittest.TestCase):
 
     def test_small_schemas_of_every_form(self):
         source = random.Random(51)
-        for schema in samples.small_schemas(source, 300):
+        for schema in samples.small_schemas(source, 600):
             documents = samples.documents_of(schema)
             prefixes = samples.some_prefixes(source, documents)
             for prefix in prefixes:

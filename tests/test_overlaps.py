@@ -17,8 +17,9 @@ def with_other_dependents(source, schema):
         if source.random() < 0.4:
             choice = [samples.random_source(source), part]
             if earlier:
+                item = source.choice([("flag",), ("integer", 0, 1), ("just", 0)])
                 choice += [("repeat", source.choice(earlier)), ("repeat", source.choice(earlier)),
-                           ("sized", source.choice([("flag",), ("integer", 0, 1), ("just", 0)]), source.choice(earlier))]
+                           ("sized", item, source.choice(earlier))]
             part = source.choice(choice)
         members.append((name, part, required if source.random() < 0.8 else not required))
     return ("record", tuple(members))
