@@ -34,8 +34,6 @@ def text_pairs(letters, least, greatest):
 def times(first, second, size):
     """Return the row of all texts of one row followed by one of another row, cut to a size."""
     size = min(size, len(first) + len(second) - 1)
-    if first == [] or second == []:
-        return []
     # The work goes with the entries that are not 0 of the first row.
     if len(first) - first.count(0) > len(second) - second.count(0):
         first, second = second, first

@@ -266,6 +266,16 @@ def random_linked(random):
     return ("record", tuple(members))
 
 
+def random_fork(random):
+    """A random either of two records with linked members, which mostly differ in the first one; it may be no schema."""
+    found = []
+    for first in (("integer", 0, 1), ("integer", 2, random.choice([2, 3, 12]))):
+        members = list(random_linked(random)[1])
+        members[0] = (members[0][0], first, random.random() < 0.9)
+        found.append(("record", tuple(members)))
+    return ("either", tuple(found))
+
+
 def most_values(schema):
     """A number that a schema has at most as many values as."""
     form = schema[0]
@@ -293,12 +303,17 @@ def most_values(schema):
     return len(values_of(schema))
 
 
+EITHER_LEAVES = [("just", 0), ("just", 1), ("just", True), ("flag",), ("choice", ("a", "ab")), ("text", "", "b", 0, 1),
+                 ("integer", 0, 1), ("integer", 2, 11), ("just", [1]), ("just", []), ("just", {}), ("just", {"a": 0})]
+
+
 def small_schemas(random, many, most=300):
     """So many random schemas of every form, with at most so many values."""
     found = []
     while len(found) < many:
         schema = random.choice([random_schema(random, 1), random_schema(random, 2), random_schema(random, 3),
-                                random_linked(random), random_linked(random), random_range(random)])
+                                random_linked(random), random_linked(random), random_range(random),
+                                random_fork(random), random_either(random, random.choice([2, 3]), EITHER_LEAVES)])
         if is_schema(schema) and most_values(schema) <= most:
             found.append(schema)
         elif is_schema(schema) and schema[0] == "record" and most_values(schema) <= 3 * most:

@@ -121,6 +121,23 @@ class Automata(unittest.TestCase):
             self.assertEqual(lengths_of(states, 400), counts(schema, 400))
             self.assertEqual(renumbered(states, 0), states)
 
+    def test_the_bound_that_is_not_given(self):
+        # A single document has one state more than characters.
+        row = ["a" * 12] * 8
+        value = [[row] * 8, [row] * 7, [row], "a" * 12, "a" * 12, "a" * 7]
+        self.assertEqual(len(samples.plain_document(value)), 1999)
+        longer = value[:-1] + ["a" * 8]
+        self.assertEqual(len(automaton(("just", value))), 2000)
+        self.assertEqual(outside(("just", value), ("flag",)), samples.plain_document(value))
+        self.assertTrue(equal(("just", value), ("just", value)))
+        for call in (lambda: automaton(("just", longer)), lambda: outside(("just", longer), ("flag",)),
+                     lambda: outside(("flag",), ("just", longer)), lambda: equal(("just", longer), ("just", value)),
+                     lambda: equal(("just", value), ("just", longer))):
+            with self.assertRaises(TooManyStates) as caught:
+                call()
+            self.assertEqual(caught.exception.bound, 2000)
+        self.assertEqual(len(automaton(("just", longer), bound=2001)), 2001)
+
     def test_too_many_states_are_told_soon(self):
         members = [(name, ("integer", 0, 39), True) for name in "abcd"]
         members += [(name, ("repeat", other), True) for name, other in zip("efgh", "abcd")]

@@ -85,7 +85,7 @@ class Witnesses(unittest.TestCase):
 
     def test_small_schemas_of_every_form(self):
         source = random.Random(101)
-        for schema in samples.small_schemas(source, 120, 60):
+        for schema in samples.small_schemas(source, 80, 60):
             values = {samples.plain_document(value): value for value in samples.values_of(schema)}
             documents = sorted(values)
             for prefix in samples.some_prefixes(source, documents, 1):
@@ -148,6 +148,13 @@ class Witnesses(unittest.TestCase):
         for thing in lists:
             thing.clear()
         self.assertEqual(inner, [1, [2]])
+        # Members with the same schema: their values are the same, but not the same lists.
+        row = ("list", (), ("list", (), ("flag",), 1, 1), 1, 2)
+        schema = ("record", (("a", row, True), ("b", row, True), ("c", row, False), ("d", row, False)))
+        for path in ((), ("a",), ("c",), ("d", 0, 0)):
+            lists = containers_of(witness(schema, "", path))
+            self.assertEqual(len({id(thing) for thing in lists}), len(lists))
+        schema = ("list", (("just", inner), ("just", inner)), ("just", inner), 2, 3)
         self.assertEqual(sorted(map(len, witness(schema=schema, prefix="", path=(), limit=None))), [2, 3])
         self.assertTrue(is_witness(schema=("flag",), prefix="", path=(), pair=(True, False), limit=5))
         with self.assertRaises(TypeError):

@@ -77,7 +77,7 @@ class AgainstAllDocuments(unittest.TestCase):
 
     def test_small_schemas_of_every_form(self):
         source = random.Random(41)
-        for schema in samples.small_schemas(source, 120, 100):
+        for schema in samples.small_schemas(source, 80, 100):
             documents = samples.documents_of(schema)
             lengths = sorted({len(document) for document in documents})
             for prefix in samples.some_prefixes(source, documents, 2):
