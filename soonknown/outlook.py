@@ -61,7 +61,7 @@ class Outlook:
         return self.known_of_all(part[1], room)
 
     def known_of_all(self, numbers, room):
-        """Return the knowledge of the values of some parts that have at most so many characters; there is one."""
+        """Return the knowledge of the values of some parts that have at most so many characters; None if none has."""
         found = None
         for number in numbers:
             if self.lengths.of(number) <= room:
@@ -78,7 +78,7 @@ class Outlook:
             item = self.grammar.item_at(number, at)
             items.append(self.knowledge(item, self.lengths.of(item) + spare))
         longest = least
-        # The first item of all takes one character more, as the rest of them do: it is no matter which bracket it is.
+        # Each item takes one character more, the comma or the bracket behind it.
         left = room - 1 - self.lengths.items_length(number)
         while longest < greatest:
             left = left - 1 - self.lengths.of(self.grammar.item_at(number, longest))
