@@ -1,11 +1,12 @@
 """Certificates: pairs of completions that differ, and pieces that are all that a prefix leaves of a schema."""
 
+from soonknown.apartness import alternatives_of, are_all_apart
 from soonknown.contrasts import Contrasts, combined, differ
 from soonknown.grammar import Grammar
 from soonknown.narrowing import narrowed
 from soonknown.overlaps import Overlaps
 from soonknown.prefixes import begin
-from soonknown.schemas import apart, fits, is_schema
+from soonknown.schemas import fits, is_schema
 from soonknown.values import document, is_value, renewed
 
 
@@ -47,7 +48,7 @@ def is_witness(schema, prefix, path, pair, *, limit=None):
 
 def check_cover(schema, prefix, pieces):
     """Return whether any value is a list of pieces as narrow may return it."""
-    if not isinstance(pieces, list) or not are_schemas_apart(pieces):
+    if not isinstance(pieces, list) or not are_schemas(pieces) or not are_pairwise_apart(pieces):
         return False
     grammar = Grammar()
     overlaps = Overlaps(grammar)
@@ -62,13 +63,19 @@ def check_cover(schema, prefix, pieces):
     return True
 
 
-def are_schemas_apart(things):
-    """Return whether all of some things are schemas, and each two of them apart."""
+def are_schemas(things):
+    """Return whether all of some things are schemas."""
     for thing in things:
         if not is_schema(thing):
             return False
-    for at, schema in enumerate(things):
-        for other in things[:at]:
-            if not apart(schema, other):
-                return False
     return True
+
+
+def are_pairwise_apart(schemas):
+    """Return whether each two of some schemas are apart, by halves, as whole lists are compared faster than pairs."""
+    if len(schemas) < 2:
+        return True
+    middle = len(schemas) // 2
+    if not are_pairwise_apart(schemas[:middle]) or not are_pairwise_apart(schemas[middle:]):
+        return False
+    return are_all_apart(alternatives_of(schemas[:middle]), alternatives_of(schemas[middle:]), True)

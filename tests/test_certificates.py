@@ -282,6 +282,18 @@ class Covers(unittest.TestCase):
             for other in pairs:
                 self.assertIs(check_cover(schema, "", [("record", (*members, *other))]), last == other)
 
+    def test_many_pieces(self):
+        numbers = [("just", value) for value in range(800)]
+        self.assertTrue(check_cover(("integer", 0, 799), "", numbers))
+        self.assertFalse(check_cover(("integer", 0, 799), "", numbers[:-1] + numbers[:1]))
+        self.assertFalse(check_cover(("integer", 0, 799), "", numbers[:-2] + [("integer", 797, 799)]))
+        row = ("list", (), ("integer", 0, 9), 2, 2)
+        rows = [("just", [first, second]) for first in range(10) for second in range(10)]
+        self.assertTrue(check_cover(row, "", rows))
+        self.assertTrue(check_cover(row, "[3", rows[30:40]))
+        self.assertFalse(check_cover(row, "", rows[1:] + rows[-1:]))
+        self.assertFalse(check_cover(row, "", rows[:-1] + [("list", (), ("integer", 8, 9), 2, 2)]))
+
     def test_nothing_is_changed(self):
         schema = ("list", (), ("just", [1, {"a": 2}]), 0, 2)
         pieces = narrow(schema, "[")
