@@ -28,7 +28,7 @@ class Builder:
         self.bound = bound
         self.spot_numbers = {}
         # For each list of spots that is done, its state. Two lists may have the same one.
-        self.kept = {}
+        self.done = {}
         self.states = []
         self.state_numbers = {}
 
@@ -59,15 +59,15 @@ class Builder:
         while waiting:
             place = waiting[-1]
             if len(place.steps) == len(place.later):
-                self.kept[place.told] = self.state(place)
+                self.done[place.told] = self.state(place)
                 waiting.pop()
             else:
                 sign, later, more = place.later[len(place.steps)]
-                if later in self.kept:
-                    place.steps.append((sign, self.kept[later]))
+                if later in self.done:
+                    place.steps.append((sign, self.done[later]))
                 else:
                     waiting.append(self.place(later, more))
-        return self.kept[key]
+        return self.done[key]
 
     def state(self, place):
         """Return the number of the state of a place of which all moves have been followed."""
@@ -85,7 +85,7 @@ def automaton(schema, *, bound=2000):
     """Return the automaton of a schema: a list of (accepting, steps), a step being (character, next state)."""
     ways, spots = start(schema)
     # Behind each character of the longest document there is another state: this spares building far too much.
-    if Lengths(ways.grammar, True).of(spots[0][1]) >= bound:
+    if Lengths(ways.grammar, True).length_of(spots[0][1]) >= bound:
         raise TooManyStates(bound)
     builder = Builder(ways, bound)
     return renumbered(builder.states, builder.build(spots))

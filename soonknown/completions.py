@@ -24,7 +24,7 @@ def signs_within(ways, spots, read, limit):
     """Return the characters that may come at some spots and leave room for the rest of a document."""
     if limit is None:
         return ways.signs(spots)
-    return [sign for sign in ways.signs(spots) if has_room(ways, ways.after(spots, sign), read + 1, limit)]
+    return [sign for sign in ways.signs(spots) if has_room(ways, ways.spots_after(spots, sign), read + 1, limit)]
 
 
 def is_complete(schema, prefix):
@@ -46,7 +46,7 @@ def forced_text(schema, prefix, *, limit=None):
         if len(signs) > 1:
             break
         text.append(signs[0])
-        spots = ways.after(spots, signs[0])
+        spots = ways.spots_after(spots, signs[0])
     return "".join(text)
 
 
@@ -72,13 +72,13 @@ def completion(schema, prefix, number, *, limit=None):
             left = left - 1
         sign, left = next_sign(supply, spots, len(text), left)
         text.append(sign)
-        spots = ways.after(spots, sign)
+        spots = ways.spots_after(spots, sign)
 
 
 def next_sign(supply, spots, read, number):
     """Return the next character of the document with a number, and its number among those that go on with it."""
     for sign in supply.ways.signs(spots):
-        many = supply.many(supply.ways.after(spots, sign), read + 1)
+        many = supply.many(supply.ways.spots_after(spots, sign), read + 1)
         if number < many:
             return sign, number
         number = number - many
@@ -98,7 +98,7 @@ def rank(schema, text, *, limit=None):
             number = number + 1
         for other in ways.signs(spots):
             if other < sign:
-                number = number + supply.many(ways.after(spots, other), read + 1)
+                number = number + supply.many(ways.spots_after(spots, other), read + 1)
     return number
 
 
@@ -109,7 +109,7 @@ def spots_before(schema, text):
     ways, spots = start(schema)
     found = [spots]
     for at, sign in enumerate(text):
-        spots = ways.after(spots, sign)
+        spots = ways.spots_after(spots, sign)
         if spots == []:
             raise BadDocument(at)
         found.append(spots)
@@ -125,13 +125,13 @@ def shortest(schema, prefix, *, limit=None):
         left = left - 1
         sign = first_sign(ways, spots, left)
         text.append(sign)
-        spots = ways.after(spots, sign)
+        spots = ways.spots_after(spots, sign)
     return "".join(text)
 
 
 def first_sign(ways, spots, left):
     """Return the first character behind which only so many characters are missing."""
     for sign in ways.signs(spots):
-        if missing(ways, ways.after(spots, sign)) == left:
+        if missing(ways, ways.spots_after(spots, sign)) == left:
             return sign
     return ""

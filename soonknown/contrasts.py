@@ -56,8 +56,8 @@ class Contrasts:
 
     def __init__(self, grammar):
         self.grammar = grammar
-        self.lengths = Lengths(grammar, False)
-        self.kept = {}
+        self.least_lengths = Lengths(grammar, False)
+        self.done = {}
 
     def contrasts(self, number, path):
         """Return (without, first, second) for a path and the values of a part.
@@ -146,7 +146,7 @@ class Contrasts:
         if part[0] == "record":
             return self.shortest_record(part[1])
         for alternative in part[1]:
-            if self.lengths.of(alternative) == self.lengths.of(number):
+            if self.least_lengths.length_of(alternative) == self.least_lengths.length_of(number):
                 return self.shortest(alternative)
         return None
 
@@ -156,9 +156,9 @@ class Contrasts:
 
     def two(self, number):
         """Return a shortest value of a part, and a shortest one of the others or None."""
-        if number not in self.kept:
-            self.kept[number] = self.worked_out(number)
-        return self.kept[number]
+        if number not in self.done:
+            self.done[number] = self.worked_out(number)
+        return self.done[number]
 
     def worked_out(self, number):
         """Return what two returns for a part that has not been kept yet."""

@@ -8,13 +8,13 @@ from soonknown.tallies import Tallies
 def shortest_length(schema):
     """Return the least length of the values of a schema."""
     grammar = Grammar()
-    return Lengths(grammar, False).of(grammar.part_of(schema))
+    return Lengths(grammar, False).length_of(grammar.part_of(schema))
 
 
 def longest_length(schema):
     """Return the greatest length of the values of a schema."""
     grammar = Grammar()
-    return Lengths(grammar, True).of(grammar.part_of(schema))
+    return Lengths(grammar, True).length_of(grammar.part_of(schema))
 
 
 def counts(schema, limit):

@@ -12,17 +12,17 @@ class Lengths:
     def __init__(self, grammar, longest):
         self.grammar = grammar
         self.longest = longest
-        self.kept = {}
+        self.done = {}
 
     def pick(self, lengths):
         """Return the least or the greatest one of some lengths."""
         return max(lengths) if self.longest else min(lengths)
 
-    def of(self, number):
+    def length_of(self, number):
         """Return the least or greatest length of a part; of a rest without what stands behind its container."""
-        if number not in self.kept:
-            self.kept[number] = self.worked_out(self.grammar.parts[number], number)
-        return self.kept[number]
+        if number not in self.done:
+            self.done[number] = self.worked_out(self.grammar.parts[number], number)
+        return self.done[number]
 
     def worked_out(self, part, number):
         """Return the length of a part that has not been kept yet."""
@@ -34,7 +34,7 @@ class Lengths:
         if form == "text":
             return self.pick([part[3], part[4]]) + 2
         if form == "either":
-            return self.pick([self.of(alternative) for alternative in part[1]])
+            return self.pick([self.length_of(alternative) for alternative in part[1]])
         # Each item and each member takes one character more, a comma or the bracket behind it.
         if form == "items":
             return 1 + self.items_length(number)
@@ -55,7 +55,7 @@ class Lengths:
         """Return the length of the items of a list, each with one character more."""
         part = self.grammar.parts[number]
         many = self.pick([part[3], part[4]])
-        return sum([1 + self.of(self.grammar.item_at(number, at)) for at in range(many)])
+        return sum([1 + self.length_of(self.grammar.item_at(number, at)) for at in range(many)])
 
     def members_length(self, members):
         """Return the length of members, each with one character more."""
@@ -70,7 +70,7 @@ class Lengths:
     def value_length(self, name, number, dependents):
         """Return the length of the value of a member together with the members that depend on it."""
         if dependents == ():
-            return self.of(number)
+            return self.length_of(number)
         return self.pick([self.length_with(name, text, dependents) for text in self.grammar.documents_of(number)])
 
     def length_with(self, name, text, dependents):

@@ -34,16 +34,16 @@ class Outlook:
 
     def __init__(self, grammar):
         self.grammar = grammar
-        self.lengths = Lengths(grammar, False)
+        self.least_lengths = Lengths(grammar, False)
         self.most_lengths = Lengths(grammar, True)
-        self.kept = {}
+        self.done = {}
 
     def knowledge(self, number, room):
         """Return the knowledge of the values of a part that have at most so many characters; there is one."""
-        key = (number, min(room, self.most_lengths.of(number)))
-        if key not in self.kept:
-            self.kept[key] = self.worked_out(self.grammar.parts[number], number, key[1])
-        return self.kept[key]
+        key = (number, min(room, self.most_lengths.length_of(number)))
+        if key not in self.done:
+            self.done[key] = self.worked_out(self.grammar.parts[number], number, key[1])
+        return self.done[key]
 
     def worked_out(self, part, number, room):
         """Return a knowledge that has not been kept yet."""
@@ -64,7 +64,7 @@ class Outlook:
         """Return the knowledge of the values of some parts that have at most so many characters; None if none has."""
         found = None
         for number in numbers:
-            if self.lengths.of(number) <= room:
+            if self.least_lengths.length_of(number) <= room:
                 more = self.knowledge(number, room)
                 found = more if found is None else joined(found, more)
         return found
@@ -72,16 +72,16 @@ class Outlook:
     def known_list(self, number, room):
         """Return the knowledge of the lists of a part that have at most so many characters."""
         _, _, _, least, greatest = self.grammar.parts[number]
-        spare = room - self.lengths.of(number)
+        spare = room - self.least_lengths.length_of(number)
         items = []
         for at in range(least):
             item = self.grammar.item_at(number, at)
-            items.append(self.knowledge(item, self.lengths.of(item) + spare))
+            items.append(self.knowledge(item, self.least_lengths.length_of(item) + spare))
         longest = least
         # Each item takes one character more, the comma or the bracket behind it.
-        left = room - 1 - self.lengths.items_length(number)
+        left = room - 1 - self.least_lengths.items_length(number)
         while longest < greatest:
-            left = left - 1 - self.lengths.of(self.grammar.item_at(number, longest))
+            left = left - 1 - self.least_lengths.length_of(self.grammar.item_at(number, longest))
             if left < 0:
                 break
             longest += 1
@@ -91,7 +91,7 @@ class Outlook:
 
     def known_record(self, members, room):
         """Return the knowledge of the records of some members that have at most so many characters."""
-        rows = self.rows_of(members, room - 1 - self.lengths.members_length(members))
+        rows = self.rows_of(members, room - 1 - self.least_lengths.members_length(members))
         found = [(name, rows[name][0], rows[name][1]) for name in sorted(rows)]
         if are_single([row[2] for row in found]) and [row for row in found if row[1] != "always"] == []:
             return ("value", {row[0]: row[2][1] for row in found})
@@ -108,7 +108,7 @@ class Outlook:
             if dependents != ():
                 found.update(self.rows_of_source(name, number, dependents, spare))
             elif self.grammar.source_of(number) == "":
-                least = self.lengths.of(number)
+                least = self.least_lengths.length_of(number)
                 left = spare if required else spare - 1 - name_length(name) - least
                 if left >= 0:
                     found[name] = ("always" if required else "sometimes", self.knowledge(number, least + left))
@@ -118,9 +118,9 @@ class Outlook:
         """Return the rows of a member and of those that depend on it."""
         values = []
         found = {}
-        room = spare + self.lengths.value_length(name, number, dependents)
+        room = spare + self.least_lengths.value_length(name, number, dependents)
         for text in self.grammar.documents_of(number):
-            left = room - self.lengths.length_with(name, text, dependents)
+            left = room - self.least_lengths.length_with(name, text, dependents)
             if left >= 0:
                 values.append(read_document(text))
                 for other, row in self.rows_of(self.grammar.with_value(dependents, name, text), left).items():

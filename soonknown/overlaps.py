@@ -37,7 +37,7 @@ class Overlaps:
     def __init__(self, grammar):
         self.grammar = grammar
         self.tallies = Tallies(grammar, None)
-        self.kept = {}
+        self.done = {}
 
     def size(self, number):
         """Return how many values a part has."""
@@ -46,9 +46,9 @@ class Overlaps:
     def common(self, first, second):
         """Return how many values two parts have in common."""
         key = (first, second)
-        if key not in self.kept:
-            self.kept[key] = self.worked_out(first, second)
-        return self.kept[key]
+        if key not in self.done:
+            self.done[key] = self.worked_out(first, second)
+        return self.done[key]
 
     def worked_out(self, first, second):
         """Return what two parts have in common if it has not been kept yet."""

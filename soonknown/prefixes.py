@@ -21,7 +21,7 @@ def begin(schema, prefix, limit):
         raise BadPrefix(0)
     ways, spots = start(schema)
     for at, sign in enumerate(prefix):
-        spots = ways.after(spots, sign)
+        spots = ways.spots_after(spots, sign)
         if spots == []:
             raise BadPrefix(at)
     if not has_room(ways, spots, len(prefix), limit):

@@ -57,7 +57,7 @@ class Spots:
 
     def __init__(self, grammar):
         self.grammar = grammar
-        self.lengths = Lengths(grammar, False)
+        self.least_lengths = Lengths(grammar, False)
         self.rests = [(NONE, NONE)]
         self.rest_numbers = {}
         self.kept_moves = {}
@@ -70,7 +70,7 @@ class Spots:
             self.rests.append(pair)
         return self.rest_numbers[pair]
 
-    def after(self, spots, sign):
+    def spots_after(self, spots, sign):
         """Return the spots to which a character leads from some spots; an empty list if it cannot come."""
         found = []
         for spot in spots:
@@ -227,7 +227,7 @@ class Spots:
         """Return the least number of characters up to the end of the value that is being read."""
         form = spot[0]
         if form == "value":
-            return self.lengths.of(spot[1])
+            return self.least_lengths.length_of(spot[1])
         if form == "word":
             return len(spot[1])
         if form == "words":
@@ -237,13 +237,13 @@ class Spots:
         if form == "digits":
             return min([row[0] for row in spot[1]])
         if form == "name":
-            return len(spot[1]) + self.lengths.of(spot[2])
-        return self.lengths.of(spot[1]) - 1 if form == "opened" else 0
+            return len(spot[1]) + self.least_lengths.length_of(spot[2])
+        return self.least_lengths.length_of(spot[1]) - 1 if form == "opened" else 0
 
     def shortest_behind(self, rest):
         """Return the least number of characters of a rest and those behind it."""
         found = 0
         while rest != END:
             part, rest = self.rests[rest]
-            found = found + self.lengths.of(part)
+            found = found + self.least_lengths.length_of(part)
         return found

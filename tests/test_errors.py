@@ -2,14 +2,22 @@
 
 import unittest
 
-from soonknown import errors
+from soonknown import changeerrors, errors
 from soonknown.errors import SchemaError
 
 ATTRIBUTES = {
     "BadDocument": "position", "BadPrefix": "position", "NoRoom": "length", "NoSuchCompletion": "count",
     "NoPath": "path", "NotOffered": "position", "TooManyStates": "bound", "BadSchema": "position",
-    "TooFar": "number", "BadCommand": "command",
+    "TooFar": "number", "BadCommand": "command", "BadScript": "steps", "WrongText": "wrong", "NotInside": "wrong",
+    "NoSuchText": "count", "NothingBetween": "pair", "NoTexts": "wrong",
 }
+CHANGE_ERRORS = ["BadScript", "WrongText", "NotInside", "NoSuchText", "NothingBetween", "NoTexts"]
+
+
+def error_class(name):
+    """The class of an error, from the file that has it."""
+    return getattr(changeerrors if name in CHANGE_ERRORS else errors, name)
+
 
 
 class Errors(unittest.TestCase):
@@ -17,14 +25,14 @@ class Errors(unittest.TestCase):
         for name, attribute in ATTRIBUTES.items():
             for stored in (0, -1, True, None, "abc", (1, "a"), ["a"], {"a": [1]}):
                 with self.subTest(name=name, stored=stored):
-                    error = getattr(errors, name)
+                    error = error_class(name)
                     self.assertIs(getattr(error(stored), attribute), stored)
                     self.assertIs(getattr(error(**{attribute: stored}), attribute), stored)
 
     def test_argument_is_needed_under_this_name(self):
         for name in ATTRIBUTES:
             with self.subTest(name=name):
-                error = getattr(errors, name)
+                error = error_class(name)
                 self.assertRaises(TypeError, error)
                 self.assertRaises(TypeError, error, 1, 2)
                 self.assertRaises(TypeError, lambda: error(other=1))
@@ -33,11 +41,16 @@ class Errors(unittest.TestCase):
         self.assertEqual(SchemaError.__bases__, (ValueError,))
         for name in ATTRIBUTES:
             with self.subTest(name=name):
-                self.assertEqual(getattr(errors, name).__bases__, (SchemaError,))
+                self.assertEqual(error_class(name).__bases__, (SchemaError,))
+
+    def test_defined_in_their_files(self):
+        for name in ATTRIBUTES:
+            file = "changeerrors" if name in CHANGE_ERRORS else "errors"
+            self.assertEqual(error_class(name).__module__, "soonknown." + file)
 
     def test_caught_as_itself_and_its_bases(self):
         for name, attribute in ATTRIBUTES.items():
-            error = getattr(errors, name)
+            error = error_class(name)
             for base in (error, SchemaError, ValueError):
                 for made in (error(7), error(**{attribute: 7})):
                     with self.subTest(name=name, base=base):
@@ -51,8 +64,8 @@ class Errors(unittest.TestCase):
             for other in ATTRIBUTES:
                 if other != name:
                     with self.subTest(name=name, other=other):
-                        self.assertFalse(issubclass(getattr(errors, name), getattr(errors, other)))
-                        self.assertNotIsInstance(getattr(errors, name)(1), getattr(errors, other))
+                        self.assertFalse(issubclass(error_class(name), error_class(other)))
+                        self.assertNotIsInstance(error_class(name)(1), error_class(other))
 
 
 if __name__ == "__main__":

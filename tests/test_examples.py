@@ -291,6 +291,38 @@ STAGE_9 = r"""
     >>> check_cover(('integer', 0, 9), 'x', [])
     True
 """
+STAGE_10 = r"""
+    >>> from soonknown.texts import schema_text
+    >>> schema_text(('record', (('a', ('integer', 0, 3), True), ('b', ('repeat', 'a'), False))))
+    '{a: int 0..3, b?: same a}'
+    >>> from soonknown.texts import parse_schema
+    >>> parse_schema('[flag, *one of "a" "b"; 1..2]')
+    ('list', (('flag',),), ('choice', ('a', 'b')), 1, 2)
+    >>> parse_schema('int 5..3')
+    raises BadSchema(-1)
+    >>> parse_schema('[*flag; 0.2]')
+    raises BadSchema(10)
+    >>> from soonknown.console import Console
+    >>> console = Console()
+    >>> first = console.say('schema [*int 0..12; 0..2]')
+    >>> second = console.say('feed [1')
+    >>> [first, second, console.say('next'), console.say('count'), console.say('known .0')]
+    ['ok', '. list 1..2\n.0 int 1..12', ',012]', '56', 'int 1..12']
+    >>> Console().say('limit 401')
+    raises BadCommand('limit 401')
+"""
+STAGE_11 = r"""
+    >>> from soonknown.changes import Script
+    >>> script = Script([("keep", "a"), ("drop", "b"), ("swap", "c", "d"), ("put", "e")])
+    >>> [script.given, script.made, script("abc"), len(script), script.cost(put=5)]
+    ['abc', 'ade', 'ade', 3, 7]
+    >>> (~script).steps
+    (('keep', 'a'), ('put', 'b'), ('swap', 'd', 'c'), ('drop', 'e'))
+    >>> (script + Script([("keep", "a"), ("swap", "d", "c"), ("drop", "e"), ("put", "f")])).steps
+    (('keep', 'a'), ('drop', 'b'), ('keep', 'c'), ('put', 'f'))
+    >>> (script + ~script).steps
+    (('keep', 'a'), ('drop', 'b'), ('put', 'b'), ('keep', 'c'))
+"""
 
 
 def outcome(source, names):
@@ -306,17 +338,18 @@ class Examples(unittest.TestCase):
     def run_examples(self, text):
         """Run the examples of a stage and return how many results were compared."""
         names = {}
-        source = None
         compared = 0
-        for line in text.strip().splitlines():
-            line = line.strip()
-            if line.startswith(">>> "):
-                source = line[4:]
-                if source.startswith("from ") or source.split("(")[0].count(" = ") == 1:
-                    exec(source, names)
+        rows = [line.strip() for line in text.strip().splitlines()]
+        for at, line in enumerate(rows):
+            source = line.removeprefix(">>> ")
+            wanted = rows[at + 1] if rows[at + 1:] and not rows[at + 1].startswith(">>> ") else None
+            if line == source:
+                continue
+            if wanted is None:
+                exec(source, names)
             else:
                 with self.subTest(source=source):
-                    self.assertEqual(outcome(source, names), line)
+                    self.assertEqual(outcome(source, names), wanted)
                 compared += 1
         return compared
 
@@ -346,6 +379,12 @@ class Examples(unittest.TestCase):
 
     def test_stage_9(self):
         self.assertEqual(self.run_examples(STAGE_9), 11)
+
+    def test_stage_10(self):
+        self.assertEqual(self.run_examples(STAGE_10), 6)
+
+    def test_stage_11(self):
+        self.assertEqual(self.run_examples(STAGE_11), 4)
 
     def test_the_example_of_the_overview(self):
         size = ("integer", 0, 8)
