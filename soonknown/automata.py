@@ -2,10 +2,8 @@
 
 from soonknown.errors import TooManyStates
 from soonknown.lengths import Lengths
+from soonknown.machines import NOWHERE, renumbered
 from soonknown.prefixes import COMPLETE, start
-
-# Stands instead of a state where an automaton accepts nothing more.
-NOWHERE = -1
 
 
 class Place:
@@ -29,7 +27,7 @@ class Builder:
         self.spot_numbers = {}
         # For each list of spots that is done, its state. Two lists may have the same one.
         self.done = {}
-        self.states = []
+        self.state_rows = []
         self.state_numbers = {}
 
     def key(self, spots):
@@ -74,10 +72,10 @@ class Builder:
         told = (place.accepting, tuple(place.steps))
         if told not in self.state_numbers:
             # Each state found is one of the least automaton, as different ones accept different texts.
-            if len(self.states) >= self.bound:
+            if len(self.state_rows) >= self.bound:
                 raise TooManyStates(self.bound)
-            self.state_numbers[told] = len(self.states)
-            self.states.append(told)
+            self.state_numbers[told] = len(self.state_rows)
+            self.state_rows.append(told)
         return self.state_numbers[told]
 
 
@@ -88,25 +86,7 @@ def automaton(schema, *, bound=2000):
     if Lengths(ways.grammar, True).length_of(spots[0][1]) >= bound:
         raise TooManyStates(bound)
     builder = Builder(ways, bound)
-    return renumbered(builder.states, builder.build(spots))
-
-
-def renumbered(states, first):
-    """Return states in the order in which a breadth-first search reaches them, with their new numbers."""
-    order = [first]
-    numbers = {first: 0}
-    at = 0
-    while at < len(order):
-        for _, later in states[order[at]][1]:
-            if later not in numbers:
-                numbers[later] = len(order)
-                order.append(later)
-        at += 1
-    found = []
-    for number in order:
-        accepting, steps = states[number]
-        found.append((accepting, tuple([(sign, numbers[later]) for sign, later in steps])))
-    return found
+    return renumbered(builder.state_rows, builder.build(spots))
 
 
 def accepts(states, text):

@@ -323,6 +323,59 @@ STAGE_11 = r"""
     >>> (script + ~script).steps
     (('keep', 'a'), ('drop', 'b'), ('put', 'b'), ('keep', 'c'))
 """
+STAGE_12 = r"""
+    >>> from soonknown.languages import Language
+    >>> language = Language.listed(["b", "ab", "b", ""])
+    >>> [language.count, language[0], language[1], language.rank_of("b"), language.lengths(), "a" in language]
+    [3, '', 'ab', 2, [1, 1, 1], False]
+    >>> numbers = Language.of(("integer", 8, 11))
+    >>> [numbers.states() == Language.listed(["8", "9", "10", "11"]).states(), (numbers - language.upto(1)).count]
+    [True, 4]
+    >>> [(numbers & language).states(), bool(numbers & language), (numbers ^ numbers.upto(1))[0]]
+    [[(False, ())], False, '10']
+"""
+STAGE_13 = r"""
+    >>> from soonknown.gaps import Gap
+    >>> from soonknown.languages import Language
+    >>> gap = Gap(Language.listed(["abcb", "acb", "ab", "b"]), after="b")
+    >>> [gap.first, gap.last, gap.forced, gap.forced_last, gap.closed, gap.fitting().count]
+    [['a'], ['a', 'c'], '', '', True, 4]
+    >>> gap.put("a")
+    >>> [gap.first, gap.last, gap.closed, gap.forced_last]
+    [['b', 'c'], ['c'], True, '']
+    >>> gap.put_last("bc")
+    >>> [gap.before, gap.after, gap.fitting().count, gap.middles()[0], gap.closed]
+    ['a', 'bcb', 1, '', True]
+    >>> gap.put("b")
+    raises NotOffered(1)
+"""
+STAGE_14 = r"""
+    >>> from soonknown.languages import Language
+    >>> from soonknown.changes import Script
+    >>> from soonknown.repairs import farthest, floors, is_cheapest, is_floors, kept_signs, near, nearest_text, repair, repair_cost, repair_count
+    >>> language = Language.listed(["a", "abc", "bc"])
+    >>> [repair_cost(language, "ac"), nearest_text(language, "ac"), repair_count(language, "ac"), kept_signs(language, "ac")]
+    [1, 'a', 3, ['sometimes', 'sometimes']]
+    >>> [repair(language, "ac").steps, near(language, "ac", 1).count, near(language, "ac", 0).count]
+    [(('keep', 'a'), ('drop', 'c')), 3, 0]
+    >>> one = Language.listed(["b"])
+    >>> [floors(one, "a"), is_floors(one, "a", ([[0, 0], [0, 0]], [[0, 0], [0, 0]]))]
+    [([[0, 1], [1, 1]], [[1, 1], [1, 0]]), True]
+    >>> [farthest(language, one), is_cheapest(one, "a", Script([("swap", "a", "b")])), is_cheapest(one, "a", ())]
+    [(2, 'abc'), True, False]
+"""
+STAGE_15 = r"""
+    >>> from soonknown.languages import Language
+    >>> from soonknown.menders import Mender
+    >>> mender = Mender(Language.of(("list", (), ("flag",), 1, 2)), put=2)
+    >>> [mender.least, mender.price, mender.nearest(), mender.welcome]
+    [0, 12, '[true]', ['[']]
+    >>> [mender.feed("[tru ]"), mender.price, mender.nearest(), mender.repair().made]
+    [[0, 0, 0, 0, 1, 1], 1, '[true]', '[true]']
+    >>> told = mender.feed("]")
+    >>> [mender.least, mender.price, len(mender)]
+    [2, 2, 7]
+"""
 
 
 def outcome(source, names):
@@ -385,6 +438,18 @@ class Examples(unittest.TestCase):
 
     def test_stage_11(self):
         self.assertEqual(self.run_examples(STAGE_11), 4)
+
+    def test_stage_12(self):
+        self.assertEqual(self.run_examples(STAGE_12), 3)
+
+    def test_stage_13(self):
+        self.assertEqual(self.run_examples(STAGE_13), 4)
+
+    def test_stage_14(self):
+        self.assertEqual(self.run_examples(STAGE_14), 4)
+
+    def test_stage_15(self):
+        self.assertEqual(self.run_examples(STAGE_15), 3)
 
     def test_the_example_of_the_overview(self):
         size = ("integer", 0, 8)
