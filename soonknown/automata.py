@@ -1,21 +1,25 @@
 """The least automata of schemas, and how schemas are compared by them."""
 
 from soonknown.errors import TooManyStates
+from soonknown.fixed import FixedTexts
 from soonknown.lengths import Lengths
 from soonknown.machines import NOWHERE, renumbered
 from soonknown.prefixes import COMPLETE, start
+from soonknown.spots import add_to
 
 
 class Place:
-    """A list of spots on the way through all documents, with what has been found out about it."""
+    """A list of spots on the way through all documents, by its key, and what may follow."""
 
-    def __init__(self, told, accepting, later):
-        self.told = told
+    def __init__(self, key, accepting, text, later):
+        self.key = key
         self.accepting = accepting
-        # (character, key of the spots, spots) for each character that may come.
+        # The characters that must come one after the other, if there is no choice; then one key stands behind them.
+        self.text = text
+        # (character, key of the spots behind it, these spots) for each character that may come.
         self.later = later
-        # (character, state) for those of them that have been followed.
-        self.steps = []
+        # How many of these are known to be done.
+        self.followed = 0
 
 
 class Builder:
@@ -24,14 +28,17 @@ class Builder:
     def __init__(self, ways, bound):
         self.ways = ways
         self.bound = bound
+        self.fixed = FixedTexts(ways.grammar)
         self.spot_numbers = {}
-        # For each list of spots that is done, its state. Two lists may have the same one.
+        # For each list of spots that is done, by its key, its state. Two lists may have the same one.
         self.done = {}
         self.state_rows = []
         self.state_numbers = {}
 
     def key(self, spots):
         """Return what tells a list of spots from others, whatever their order."""
+        if len(spots) == 1:
+            return spots[0]
         numbers = []
         for spot in spots:
             if spot not in self.spot_numbers:
@@ -41,42 +48,70 @@ class Builder:
 
     def place(self, key, spots):
         """Return the place of some spots."""
-        later = {}
-        for spot in spots:
-            for sign, more in self.ways.moves(spot).items():
-                later.setdefault(sign, []).extend(more)
-        return Place(key, COMPLETE in spots, [(sign, self.key(later[sign]), later[sign]) for sign in sorted(later)])
+        moves = {}
+        if len(spots) == 1:
+            text, behind = self.run_from(spots[0])
+            if text != "":
+                return Place(key, False, text, [("", behind, [behind])])
+            moves = self.ways.moves(spots[0])
+        else:
+            for spot in spots:
+                add_to(moves, self.ways.moves(spot))
+        return Place(key, COMPLETE in spots, "", [(sign, self.key(moves[sign]), moves[sign]) for sign in sorted(moves)])
+
+    def run_from(self, spot):
+        """Return the text that must come at a spot, and the spot behind it; an empty text if there is a choice."""
+        form = spot[0]
+        if form == "word":
+            return spot[1], ("ended", spot[2])
+        if form == "name":
+            return spot[1], ("value", spot[2], spot[3])
+        if form == "value":
+            return self.fixed.text_of(spot[1]), ("ended", spot[2])
+        if form == "ended" and spot != COMPLETE:
+            part, rest = self.ways.rests[spot[1]]
+            return self.fixed.text_of(part), ("ended", rest)
+        return "", spot
 
     def build(self, spots):
         """Build all states from some spots on, and return the number of theirs.
 
         A state is done when all those behind it are, so that equal ones are found by what they are.
         """
-        key = self.key(spots)
-        waiting = [self.place(key, spots)]
+        first = self.key(spots)
+        waiting = [self.place(first, spots)]
         while waiting:
             place = waiting[-1]
-            if len(place.steps) == len(place.later):
-                self.done[place.told] = self.state(place)
-                waiting.pop()
+            while place.followed < len(place.later) and place.later[place.followed][1] in self.done:
+                place.followed += 1
+            if place.followed < len(place.later):
+                _, key, more = place.later[place.followed]
+                waiting.append(self.place(key, more))
             else:
-                sign, later, more = place.later[len(place.steps)]
-                if later in self.done:
-                    place.steps.append((sign, self.done[later]))
-                else:
-                    waiting.append(self.place(later, more))
-        return self.done[key]
+                self.done[place.key] = self.state_of(place)
+                waiting.pop()
+        return self.done[first]
 
-    def state(self, place):
-        """Return the number of the state of a place of which all moves have been followed."""
-        told = (place.accepting, tuple(place.steps))
-        if told not in self.state_numbers:
+    def state_of(self, place):
+        """Return the number of the state of a place if all that follows is done."""
+        if place.text == "":
+            return self.state((place.accepting, tuple([(sign, self.done[key]) for sign, key, _ in place.later])))
+        number = self.done[place.later[0][1]]
+        for sign in place.text[::-1]:
+            number = self.state((False, ((sign, number),)))
+        return number
+
+    def state(self, told):
+        """Return the number of the state that accepts or not, and has some steps."""
+        number = self.state_numbers.get(told)
+        if number is None:
+            number = len(self.state_rows)
             # Each state found is one of the least automaton, as different ones accept different texts.
-            if len(self.state_rows) >= self.bound:
+            if number >= self.bound:
                 raise TooManyStates(self.bound)
-            self.state_numbers[told] = len(self.state_rows)
+            self.state_numbers[told] = number
             self.state_rows.append(told)
-        return self.state_numbers[told]
+        return number
 
 
 def automaton(schema, *, bound=2000):

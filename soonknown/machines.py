@@ -27,11 +27,13 @@ def renumbered(states, first):
     found = []
     while len(found) < len(order):
         accepting, steps = states[order[len(found)]]
-        for _, later in steps:
+        row = []
+        for sign, later in steps:
             if numbers[later] == NOWHERE:
                 numbers[later] = len(order)
                 order.append(later)
-        found.append((accepting, tuple([(sign, numbers[later]) for sign, later in steps])))
+            row.append((sign, numbers[later]))
+        found.append((accepting, tuple(row)))
     return found
 
 

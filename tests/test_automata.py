@@ -1,6 +1,7 @@
 """Automata and comparisons, against automata that are built from all documents of small schemas."""
 
 import random
+import time
 import unittest
 
 import samples
@@ -162,6 +163,68 @@ class Automata(unittest.TestCase):
             outside(("flag",), ("flag",), 8)
         with self.assertRaises(TypeError):
             equal(("flag",), ("flag",), 8)
+
+
+def repeated_numbers(greatest, words):
+    """A schema whose automaton has a long row of states for each of its numbers."""
+    return ("record", (("a", ("integer", 10, greatest), True), ("b", ("just", words), True), ("c", ("repeat", "a"), True)))
+
+
+class ManyStates(unittest.TestCase):
+    """Automata of some 2000 states."""
+
+    SCHEMAS = [repeated_numbers(48, ["abcdefghijkl"] * 4),
+               repeated_numbers(40, ["abcdefghijkl", "abcdefghijkl", "abc", ""])]
+
+    def four_calls(self, schema):
+        """What the four calls return, or the bound that they raise."""
+        found = []
+        for call in (lambda: automaton(schema, bound=9000), lambda: automaton(schema),
+                     lambda: outside(("flag",), schema), lambda: equal(schema, ("flag",))):
+            try:
+                found.append(call())
+            except TooManyStates as error:
+                found.append(("bound", error.bound))
+        return found
+
+    def test_the_four_calls(self):
+        sizes = []
+        for schema in self.SCHEMAS + [repeated_numbers(25, ["abc"]), repeated_numbers(48, ["abcdefghijkl"] * 2 + [""])]:
+            wanted = least_automaton(samples.documents_of(schema))
+            sizes.append(len(wanted))
+            few = len(wanted) <= 2000
+            told = [wanted, "true", False] if few else [("bound", 2000)] * 3
+            self.assertEqual(self.four_calls(schema), [wanted] + told)
+            self.assertEqual(automaton(schema, bound=len(wanted)), wanted)
+            for bound in (len(wanted) - 1, 1000, 1):
+                if bound < len(wanted):
+                    with self.assertRaises(TooManyStates) as caught:
+                        automaton(schema, bound=bound)
+                    self.assertEqual(caught.exception.bound, bound)
+        self.assertEqual(sizes[:2], [2830, 1603])
+
+    def test_they_do_not_take_long(self):
+        begin = time.perf_counter()
+        for _ in range(200):
+            for schema in self.SCHEMAS:
+                self.four_calls(schema)
+        self.assertLess(time.perf_counter() - begin, 12)
+
+    def test_rows_of_states_without_a_choice(self):
+        source = random.Random(84)
+        inner = ("just", {"a": [1, True], "b": "", "c": {}})
+        forks = [("flag",), ("integer", 0, 12), ("choice", ("ab", "abc")), ("just", [])]
+        for _ in range(60):
+            parts = [source.choice([inner, ("just", source.choice([7, -7, "abc", True, [], {}, [[]]])),
+                                    ("text", "ab", "c", 4, 4), ("text", "abc", "xy", 3, 3), ("list", (), inner, 2, 2),
+                                    ("list", (), inner, 0, 0), ("record", (("x", inner, True),)), source.choice(forks),
+                                    ("record", (("x", ("just", 0), False),)), ("integer", 5, 5)]) for _ in range(3)]
+            size = ("integer", 0, 2) if source.random() < 0.5 else ("just", 2)
+            for schema in (("list", tuple(parts), parts[0], 3, source.choice([3, 4])),
+                           ("record", tuple((name, part, source.random() < 0.8) for name, part in zip("abc", parts))),
+                           ("record", (("a", size, True), ("b", ("sized", parts[0], "a"), True),
+                                       ("c", ("repeat", "a"), True), ("d", parts[1], True)))):
+                self.assertEqual(automaton(schema), least_automaton(samples.documents_of(schema)), schema)
 
 
 class Comparisons(unittest.TestCase):
