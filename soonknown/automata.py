@@ -11,11 +11,11 @@ from soonknown.spots import add_to
 class Place:
     """A list of spots on the way through all documents, by its key, and what may follow."""
 
-    def __init__(self, key, accepting, text, later):
-        self.key = key
+    def __init__(self, told, accepting, run, later):
+        self.told = told
         self.accepting = accepting
         # The characters that must come one after the other, if there is no choice; then one key stands behind them.
-        self.text = text
+        self.run = run
         # (character, key of the spots behind it, these spots) for each character that may come.
         self.later = later
         # How many of these are known to be done.
@@ -88,16 +88,16 @@ class Builder:
                 _, key, more = place.later[place.followed]
                 waiting.append(self.place(key, more))
             else:
-                self.done[place.key] = self.state_of(place)
+                self.done[place.told] = self.state_of(place)
                 waiting.pop()
         return self.done[first]
 
     def state_of(self, place):
         """Return the number of the state of a place if all that follows is done."""
-        if place.text == "":
+        if place.run == "":
             return self.state((place.accepting, tuple([(sign, self.done[key]) for sign, key, _ in place.later])))
         number = self.done[place.later[0][1]]
-        for sign in place.text[::-1]:
+        for sign in place.run[::-1]:
             number = self.state((False, ((sign, number),)))
         return number
 

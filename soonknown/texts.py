@@ -64,7 +64,7 @@ class Reading:
     """A text that is read as that of a schema. What is read refuses the first character that cannot stand there."""
 
     def __init__(self, text):
-        self.signs = text + END
+        self.padded = text + END
         self.at = 0
         # How many brackets are open.
         self.opened = 0
@@ -73,7 +73,7 @@ class Reading:
 
     def sign(self):
         """Return the next character."""
-        return self.signs[self.at]
+        return self.padded[self.at]
 
     def take(self, word):
         """Read a word that must come next."""
@@ -99,7 +99,7 @@ class Reading:
         first = self.at
         while self.sign() in signs:
             self.at += 1
-        return self.signs[first:self.at]
+        return self.padded[first:self.at]
 
     def read_name(self):
         """Read one or more letters and return them."""
@@ -126,7 +126,7 @@ class Reading:
         # A sign is followed by another digit than 0.
         if self.sign() == "0" or self.read_signs(DIGITS) == "":
             raise BadSchema(self.at)
-        return int(self.signs[first:self.at])
+        return int(self.padded[first:self.at])
 
     def read_range(self):
         """Read two integers and return them."""
@@ -164,7 +164,7 @@ class Reading:
         """Read the words of a choice and return them as a tuple."""
         words = [self.read_word()]
         while self.sign() == " ":
-            following = self.signs[self.at + 1]
+            following = self.padded[self.at + 1]
             if following == "|" and is_alternative:
                 break
             self.at += 1
