@@ -2,6 +2,7 @@
 
 from soonknown.errors import BadDocument, BadPrefix, NoRoom, NoSuchCompletion
 from soonknown.prefixes import COMPLETE, begin, has_room, missing, start
+from soonknown.spots import END
 from soonknown.supply import Supply
 
 
@@ -63,16 +64,41 @@ def completion(schema, prefix, number, *, limit=None):
     many = supply.many(spots, len(prefix))
     if not 0 <= number < many:
         raise NoSuchCompletion(many)
-    text = list(prefix)
+    return prefix + text_with(supply, spots, len(prefix), number)
+
+
+def text_with(supply, spots, read, number):
+    """Return the text with a number among all that go on from some spots if so many characters have been read."""
+    text = []
     left = number
-    while True:
-        if COMPLETE in spots:
-            if left == 0:
-                return "".join(text)
-            left = left - 1
-        sign, left = next_sign(supply, spots, len(text), left)
-        text.append(sign)
-        spots = ways.spots_after(spots, sign)
+    while COMPLETE not in spots or left > 0:
+        inner = inner_spots(supply, spots)
+        if inner != []:
+            rest = spots[0][-1]
+            share, left = divmod(left, supply.many_behind(rest, 0))
+            text.extend(text_with(supply, inner, 0, share))
+            spots = [("ended", rest)]
+        else:
+            left = left - 1 if COMPLETE in spots else left
+            sign, left = next_sign(supply, spots, read + len(text), left)
+            text.append(sign)
+            spots = supply.ways.spots_after(spots, sign)
+    return "".join(text)
+
+
+def inner_spots(supply, spots):
+    """Return the spots of the value that is being read, without what stands behind it; none if both go together.
+
+    If nothing is limited, each text of a value that has an end of its own goes on in the same ways. Then numbers are
+    put together of those of the value and of what is behind it, which are much smaller if the document is long.
+    """
+    if supply.limit is not None or len(spots) > 1 or spots[0][-1] == END:
+        return []
+    spot = spots[0]
+    has_end = spot[0] in ("word", "words", "text", "opened")
+    if has_end or (spot[0] == "value" and supply.ways.grammar.has_end(spot[1])):
+        return [(*spot[:-1], END)]
+    return []
 
 
 def next_sign(supply, spots, read, number):
@@ -87,33 +113,43 @@ def next_sign(supply, spots, read, number):
 
 def rank(schema, text, *, limit=None):
     """Return the number of a document among the completions of the empty text."""
-    ways, found = spots_before(schema, text)
-    if COMPLETE not in found[-1] or (limit is not None and len(text) > limit):
+    ways, spots = start(schema)
+    if COMPLETE not in spots_behind(ways, spots, text) or (limit is not None and len(text) > limit):
         raise BadDocument(len(text))
-    supply = Supply(ways, limit)
-    number = 0
-    for read, sign in enumerate(text):
-        spots = found[read]
-        if COMPLETE in spots:
-            number = number + 1
-        for other in ways.signs(spots):
-            if other < sign:
-                number = number + supply.many(ways.spots_after(spots, other), read + 1)
+    number, _ = rank_from(Supply(ways, limit), spots, text, 0)
     return number
 
 
-def spots_before(schema, text):
-    """Return the Spots of a schema, and a list of the spots before each character of a text and behind it."""
+def spots_behind(ways, spots, text):
+    """Return the spots behind any value, as a text, from some spots on."""
     if not isinstance(text, str):
         raise BadDocument(0)
-    ways, spots = start(schema)
-    found = [spots]
     for at, sign in enumerate(text):
         spots = ways.spots_after(spots, sign)
         if spots == []:
             raise BadDocument(at)
-        found.append(spots)
-    return ways, found
+    return spots
+
+
+def rank_from(supply, spots, text, at):
+    """Return the number of the text from an index on, among all that go on from some spots, and the index behind it."""
+    ways = supply.ways
+    number = 0
+    while at < len(text) and spots != [COMPLETE]:
+        inner = inner_spots(supply, spots)
+        if inner != []:
+            rest = spots[0][-1]
+            share, at = rank_from(supply, inner, text, at)
+            number = number + share * supply.many_behind(rest, 0)
+            spots = [("ended", rest)]
+        else:
+            number = number + (1 if COMPLETE in spots else 0)
+            for other in ways.signs(spots):
+                if other < text[at]:
+                    number = number + supply.many(ways.spots_after(spots, other), at + 1)
+            spots = ways.spots_after(spots, text[at])
+            at += 1
+    return number, at
 
 
 def shortest(schema, prefix, *, limit=None):

@@ -91,6 +91,13 @@ class Grammar:
                 found = self.with_value(found, name, self.documents_of(number)[0])
         return found
 
+    def has_end(self, number):
+        """Return whether no document of a part is the beginning of another one, as those of integers may be."""
+        part = self.parts[number]
+        if part[0] == "either":
+            return [alternative for alternative in part[1] if not self.has_end(alternative)] == []
+        return part[0] != "integer"
+
     def head(self, number):
         """Return the number of the next item of a list or of the rest of one."""
         _, leading, item, _, _ = self.parts[number]

@@ -204,31 +204,52 @@ def states_of_texts(texts):
     return renumbered(states, len(states) - 1)
 
 
+def length_sets(states):
+    """Return for each state the set of the lengths of its texts, as an integer whose binary digits say which."""
+    found = [0] * len(states)
+    for at in ascending_order(states)[::-1]:
+        accepting, steps = states[at]
+        group = int(accepting)
+        for _, later in steps:
+            group = group | found[later] << 1
+        found[at] = group
+    return found
+
+
+def length_within(group, limit):
+    """Return the greatest length in a set that is not beyond a limit, or -1."""
+    size = min(limit, group.bit_length()) + 1
+    return (group & (1 << size) - 1).bit_length() - 1
+
+
 def states_up_to(states, limit):
     """Return the states of the automaton of those texts of an automaton that have at most so many characters."""
     order = ascending_order(states)
-    longest = [0] * len(states)
-    for at in order[::-1]:
-        longest[at] = max([0, *[1 + longest[later] for _, later in states[at][1]]])
-    # For each state the lengths that may be left there; longer ones than its longest text are all the same.
+    groups = length_sets(states)
+    # For each state the greatest lengths that its texts may have, by the beginnings that lead to it.
     rooms = [{} for _ in states]
-    rooms[0][min(limit, longest[0])] = True
-    for at in order:
-        for room in list(rooms[at]):
-            for _, later in steps_within(states[at], room):
-                rooms[later][min(room - 1, longest[later])] = True
+    rooms[0][length_within(groups[0], limit)] = True
     rows = []
     numbers = {}
+    moves = {}
+    for at in order:
+        for room in list(rooms[at]):
+            moves[(at, room)] = moves_within(states[at][1], groups, room)
+            for _, (later, further) in moves[(at, room)]:
+                rooms[later][further] = True
     for at in order[::-1]:
         for room in rooms[at]:
             numbers[(at, room)] = len(rows)
-            row = []
-            for sign, later in steps_within(states[at], room):
-                row.append((sign, numbers[(later, min(room - 1, longest[later]))]))
-            rows.append((states[at][0], row))
+            row = [(sign, numbers[place]) for sign, place in moves[(at, room)]]
+            rows.append((states[at][0] and room >= 0, row))
     return least_states(rows)
 
 
-def steps_within(state, room):
-    """Return the steps of a state for which there is room."""
-    return state[1] if room > 0 else ()
+def moves_within(steps, groups, room):
+    """Return the moves (character, (next state, greatest length there)) of those steps for which there is room."""
+    found = []
+    for sign, later in steps:
+        further = length_within(groups[later], room - 1) if room > 0 else -1
+        if further >= 0:
+            found.append((sign, (later, further)))
+    return found
