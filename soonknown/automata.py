@@ -57,7 +57,11 @@ class Builder:
         else:
             for spot in spots:
                 add_to(moves, self.ways.moves(spot))
-        return Place(key, COMPLETE in spots, "", [(sign, self.key(moves[sign]), moves[sign]) for sign in sorted(moves)])
+        later = []
+        for sign in sorted(moves):
+            more = moves[sign]
+            later.append((sign, more[0] if len(more) == 1 else self.key(more), more))
+        return Place(key, COMPLETE in spots, "", later)
 
     def run_from(self, spot):
         """Return the text that must come at a spot, and the spot behind it; an empty text if there is a choice."""

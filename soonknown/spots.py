@@ -155,8 +155,9 @@ class Spots:
             return {start[0]: [("text", start[1:], letters, least - 1, greatest - 1, rest)]}
         found = {}
         if greatest > 0:
+            later = ("text", "", letters, max(least - 1, 0), greatest - 1, rest)
             for letter in letters:
-                found[letter] = [("text", "", letters, max(least - 1, 0), greatest - 1, rest)]
+                found[letter] = [later]
         if least == 0:
             found['"'] = [("ended", rest)]
         return found
