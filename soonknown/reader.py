@@ -11,8 +11,8 @@ from soonknown.values import read_document, renewed, written
 
 def events_between(path, before, after):
     """Return the events of a path, and of those that continue it, between two knowledges; None leads nowhere."""
-    # What differs for Python differs; but to Python 1 equals True.
-    if before is not None and before == after and written(before) == written(after):
+    # A value that is known stays as it is, so that it is never 1 before a character and True behind it.
+    if before is not None and before == after:
         return []
     found = [(path, renewed(after))]
     earlier = {} if before is None else dict(parts_of(before))
