@@ -3,7 +3,7 @@
 from soonknown.errors import TooManyStates
 from soonknown.fixed import FixedTexts
 from soonknown.lengths import Lengths
-from soonknown.machines import NOWHERE, renumbered
+from soonknown.machines import NOWHERE, renumbered, text_outside
 from soonknown.prefixes import COMPLETE, start
 from soonknown.spots import add_to
 
@@ -132,45 +132,24 @@ def accepts(states, text):
     """Return whether an automaton accepts a text."""
     at = 0
     for sign in text:
-        at = next_state(states, at, sign)
+        at = next_state(states[at][1], sign)
         if at == NOWHERE:
             return False
     return states[at][0]
 
 
-def next_state(states, at, sign):
-    """Return the state to which a character leads from another one, or NOWHERE."""
-    if at != NOWHERE:
-        for other, later in states[at][1]:
-            if other == sign:
-                return later
+def next_state(steps, sign):
+    """Return the state to which one of some steps leads by a character, or NOWHERE."""
+    for other, later in steps:
+        if other == sign:
+            return later
     return NOWHERE
-
-
-def is_accepting(states, at):
-    """Return whether a state accepts."""
-    return at != NOWHERE and states[at][0]
 
 
 def outside(first, second, *, bound=2000):
     """Return the first of the shortest documents of values that have the first but not the second schema, or None."""
     states = automaton(first, bound=bound)
-    others = automaton(second, bound=bound)
-    # A breadth-first search by ascending characters reaches each pair by the first of its shortest texts.
-    reached = [("", 0, 0)]
-    seen = {(0, 0): True}
-    at = 0
-    while at < len(reached):
-        text, one, other = reached[at]
-        if is_accepting(states, one) and not is_accepting(others, other):
-            return text
-        for sign, later in states[one][1]:
-            pair = (later, next_state(others, other, sign))
-            if pair not in seen:
-                seen[pair] = True
-                reached.append((text + sign, pair[0], pair[1]))
-        at += 1
-    return None
+    return text_outside(states, automaton(second, bound=bound))
 
 
 def equal(first, second, *, bound=2000):

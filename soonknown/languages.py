@@ -2,8 +2,8 @@
 
 from soonknown.automata import automaton
 from soonknown.changeerrors import NoSuchText, NotInside
-from soonknown.machines import NOWHERE, OF_BOTH, OF_EITHER, OF_FIRST_ONLY, OF_ONE_ONLY, combined, counts_of, is_within
-from soonknown.machines import moves_of_states, state_behind, states_of_texts, states_up_to
+from soonknown.machines import NOWHERE, OF_BOTH, OF_EITHER, OF_FIRST_ONLY, OF_ONE_ONLY, combined, counts_of
+from soonknown.machines import moves_of_states, state_behind, states_of_texts, states_up_to, text_outside
 from soonknown.nets import Net
 from soonknown.values import is_whole
 
@@ -115,4 +115,4 @@ class Language:
 
     def within(self, other):
         """Return whether all texts are in another language."""
-        return is_within(self._states, other._states)
+        return text_outside(self._states, other._states) is None

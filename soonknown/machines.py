@@ -155,28 +155,24 @@ def is_wanted(pair, wanted):
     return pair[1] != NOWHERE or wanted[2]
 
 
-def is_within(first, second):
-    """Return whether all texts of an automaton are texts of another one."""
+def text_outside(first, second):
+    """Return the first of the shortest texts of an automaton that are no texts of another one, or None."""
     seconds = moves_of_states(second)
-    reached = [(0, 0)]
+    # A breadth-first search by ascending characters reaches each pair by the first of its shortest texts.
+    reached = [("", 0, 0)]
     seen = {(0, 0): True}
     at = 0
     while at < len(reached):
-        one, other = reached[at]
-        if states_differ(first, one, second, other):
-            return False
+        text, one, other = reached[at]
+        if first[one][0] and not accepts_at(second, other):
+            return text
         for sign, later in first[one][1]:
             pair = (later, seconds[other].get(sign, NOWHERE))
             if pair not in seen:
                 seen[pair] = True
-                reached.append(pair)
+                reached.append((text + sign, pair[0], pair[1]))
         at = at + 1
-    return True
-
-
-def states_differ(first, one, second, other):
-    """Return whether a state of one automaton accepts and one of another automaton does not."""
-    return accepts_at(first, one) and not accepts_at(second, other)
+    return None
 
 
 def states_of_texts(texts):
