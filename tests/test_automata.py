@@ -167,7 +167,8 @@ class Automata(unittest.TestCase):
 
 def repeated_numbers(greatest, words):
     """A schema whose automaton has a long row of states for each of its numbers."""
-    return ("record", (("a", ("integer", 10, greatest), True), ("b", ("just", words), True), ("c", ("repeat", "a"), True)))
+    return ("record", (("a", ("integer", 10, greatest), True), ("b", ("just", words), True),
+                       ("c", ("repeat", "a"), True)))
 
 
 class ManyStates(unittest.TestCase):

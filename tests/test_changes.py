@@ -9,7 +9,8 @@ from soonknown.changes import Script, least_script
 from soonknown.console import Console
 from soonknown.reader import Reader
 
-PRICES = [(1, 1, 1), (1, 1, 2), (1, 1, 3), (2, 1, 1), (1, 2, 5), (3, 2, 4), (1, 1000, 1), (1000, 1, 7), (5, 5, 10), (1, 1, 1000)]
+PRICES = [(1, 1, 1), (1, 1, 2), (1, 1, 3), (2, 1, 1), (1, 2, 5), (3, 2, 4), (1, 1000, 1), (1000, 1, 7), (5, 5, 10),
+          (1, 1, 1000)]
 
 
 def priced(prices):
@@ -97,10 +98,14 @@ class Scripts(unittest.TestCase):
         good = ("keep", "a")
         wrong_steps = [
             ("swap", "a", "a"), ("keep", ""), ("keep", "ab"), ("put", ""), ("drop", "abc"), ("swap", "", "a"),
-            ("swap", "a", ""), ("swap", "ab", "c"), ("swap", "a", "bc"), ("Keep", "a"), ("move", "a"), ("", "a"), ("keep",),
-            ("swap",), ("swap", "a"), ("swap", "a", "b", "c"), ("keep", "a", "a"), ("put", "a", "b"), ("drop", "a", "b"),
-            ["keep", "a"], "keep", "ka", 5, True, None, (), [], {}, {"keep": "a"}, ("keep", 1), ("keep", True), ("keep", None),
-            ("keep", ("a",)), ("keep", ["a"]), ("swap", "a", True), ("swap", 0, "a"), (True, "a"), (None, "a"), (["keep"], "a"),
+            ("swap", "a", ""), ("swap", "ab", "c"), ("swap", "a", "bc"), ("Keep", "a"), ("move", "a"), ("", "a"),
+            ("keep",),
+            ("swap",), ("swap", "a"), ("swap", "a", "b", "c"), ("keep", "a", "a"), ("put", "a", "b"),
+            ("drop", "a", "b"),
+            ["keep", "a"], "keep", "ka", 5, True, None, (), [], {}, {"keep": "a"}, ("keep", 1), ("keep", True),
+            ("keep", None),
+            ("keep", ("a",)), ("keep", ["a"]), ("swap", "a", True), ("swap", 0, "a"), (True, "a"), (None, "a"),
+            (["keep"], "a"),
             ({}, "a"), (("keep",), "a"), ("keep", b"a"), (b"keep", "a"), Script([good]), ("keep", Script([good])),
             (Script([]), "a"), (good, good),
         ]
@@ -109,7 +114,8 @@ class Scripts(unittest.TestCase):
                 with self.assertRaises(BadScript) as caught:
                     Script(steps)
                 self.assertIs(caught.exception.steps, steps)
-        for thing in (None, 0, 1, True, "", "keep", b"", {}, {"keep": "a"}, {0: good}, good, ["keep", "a"], Script([good]),
+        for thing in (None, 0, 1, True, "", "keep", b"", {}, {"keep": "a"}, {0: good}, good, ["keep", "a"],
+                      Script([good]),
                       Reader(("flag",)), Console(), [[]], [None], ((),)):
             with self.assertRaises(BadScript) as caught:
                 Script(thing)

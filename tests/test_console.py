@@ -15,14 +15,18 @@ from test_knowledge import plain_paths
 
 NO_COMMANDS = [
     "", " ", "  ", "help", "Text", "TEXT", "text ", " text", "text x", "next 1", "forced ", "complete yes", "count 1",
-    "first 1", "shortest ", "schema", "feed", "feed ", "limit", "limit ", "limit 401", "limit 1000", "limit 01", "limit -1",
-    "limit None", "limit none ", "limit  5", "limit 5 5", "limit 5 ", "limit +5", "limit 5.0", "limit \u0665", "limit 1_0",
+    "first 1", "shortest ", "schema", "feed", "feed ", "limit", "limit ", "limit 401", "limit 1000", "limit 01",
+    "limit -1",
+    "limit None", "limit none ", "limit  5", "limit 5 5", "limit 5 ", "limit +5", "limit 5.0", "limit \u0665",
+    "limit 1_0",
     "limit " + "9" * 60, "limit " + "1" * 61, "back", "back ", "back -1", "back 00", "back 01", "back x", "back 1 1",
     "back  1", "back 1 ", "back \u0661", "back " + "1" * 61, "back 0" + "1" * 59, "pick", "pick ", "pick -1", "pick 00",
     "pick 1 ", "pick 1 1", "pick " + "9" * 61, "pick one", "pick \u00b2", "known ", "known a", "known 0", "known ..",
-    "known .a.", "known ..a", "known .a..b", "known .A", "known .a-b", "known .-1", "known .00", "known .01", "known .a.01",
+    "known .a.", "known ..a", "known .a..b", "known .A", "known .a-b", "known .-1", "known .00", "known .01",
+    "known .a.01",
     "known .0a", "known .a0", "known . ", "known .a .b", "known  .a", "known .a b", "known .\u00e9", "known .\u0663",
-    "known ." + "1" * 61, "known .0" + "1" * 59, "known .a\n", "known ()", "known .\"a\"", "text\n", "\ntext", "reset", "quit",
+    "known ." + "1" * 61, "known .0" + "1" * 59, "known .a\n", "known ()", "known .\"a\"", "text\n", "\ntext", "reset",
+    "quit",
     "feeda", "schemaflag", "limitnone", "known.", "known.a", "back1", None, 0, 5, True, b"text", ("text",), ["text"],
     {"text": 1}, (), [], {}, [["text"]], ("feed", "1"),
 ]
@@ -36,10 +40,12 @@ def second_knowledge(knowledge):
     if form == "value":
         return "= " + samples.plain_document(told[0])
     if form == "record":
-        return "record" + "".join(" " + name + {"always": "!", "sometimes": "?"}[presence] for name, presence, _ in told[0])
+        marks = {"always": "!", "sometimes": "?"}
+        return "record" + "".join(" " + name + marks[presence] for name, presence, _ in told[0])
     if form == "mixed":
         return "mixed" + "".join(" " + kind for kind in told[0])
-    return {"flag": "flag", "integer": "int {}..{}", "string": 'text "{}" {}..{}', "list": "list {}..{}"}[form].format(*told)
+    return {"flag": "flag", "integer": "int {}..{}", "string": 'text "{}" {}..{}',
+            "list": "list {}..{}"}[form].format(*told)
 
 
 def second_path(path):
@@ -114,9 +120,11 @@ class Consoles(unittest.TestCase):
         return source.choice(self.PLAIN + [
             "feed " + document[len(text):len(text) + source.choice([1, 1, 2, 5, 40])],
             "feed " + document[len(text):len(text) + source.choice([0, 1, 2])] + source.choice("0,]}x\" "),
-            "feed " + document[len(text):len(text) + 1], "back 0", "back 1", f"back {len(text)}", f"back {len(text) + 1}",
+            "feed " + document[len(text):len(text) + 1], "back 0", "back 1", f"back {len(text)}",
+            f"back {len(text) + 1}",
             "back " + "9" * 60, "limit none", f"limit {min(400, len(document))}",
-            f"limit {min(400, len(document) + source.randint(0, 6))}", f"limit {source.randint(0, 400)}", "limit 400", "limit 0",
+            f"limit {min(400, len(document) + source.randint(0, 6))}", f"limit {source.randint(0, 400)}", "limit 400",
+            "limit 0",
             "pick 0", f"pick {source.randint(0, 30)}", "pick " + "9" * 60, "known " + second_path(source.choice(paths)),
             "known " + second_path(source.choice(paths)), "known .a", "known .0", "known .b.1", "known .zzzzzzzzzzzz",
             "known ." + "8" * 60, "schema flag x", "schema ", "schema (flag | flag)"])
@@ -165,7 +173,8 @@ class Consoles(unittest.TestCase):
                 ('text "ab" c 2..4', "", 'text "ab" 2..4'), ('one of "" "b"', "", 'text "" 0..1'),
                 ("[*flag; 0..3]", "[", "list 0..3"), ("[*flag; 0..3]", "[]", "= []"), ("= {}", "", "= {}"),
                 ("{a?: flag, b: flag, c?: = 1}", "", "record a? b! c?"), ("{b: flag}", "{", "record b!"),
-                ("(flag | int 0..9 | {} | [*flag; 0..1] | one of \"a\" \"b\")", "", "mixed flag integer list record string"),
+                ("(flag | int 0..9 | {} | [*flag; 0..1] | one of \"a\" \"b\")", "",
+                 "mixed flag integer list record string"),
                 ('= {"b":[1,"x"],"c":{}}', "", '= {"b":[1,"x"],"c":{}}'), ("(= [] | = {})", "", "mixed list record")):
             console = Console()
             console.say("schema " + schema)
@@ -190,8 +199,10 @@ class Consoles(unittest.TestCase):
         for path, answer in ((".abc", "list 2..3"), (".abc.1", "record d!"), (".abc.1.d", "int 0..9"),
                              (".b.0.1.0", "= 6"), (".b.0", "= [5,[6]]")):
             self.assertEqual(console.say("known " + path), answer)
-        for path, told in ((".abc.2", ("abc", 2)), (".0", (0,)), (".abc.d", ("abc", "d")), (".b.0.1.0.0", ("b", 0, 1, 0, 0)),
-                           ("." + "a" * 900, ("a" * 900,)), ("." + "9" * 60, (10 ** 60 - 1,)), (".abc.1.d.0", ("abc", 1, "d", 0))):
+        for path, told in ((".abc.2", ("abc", 2)), (".0", (0,)), (".abc.d", ("abc", "d")),
+                           (".b.0.1.0.0", ("b", 0, 1, 0, 0)),
+                           ("." + "a" * 900, ("a" * 900,)), ("." + "9" * 60, (10 ** 60 - 1,)),
+                           (".abc.1.d.0", ("abc", 1, "d", 0))):
             self.refuse(console, "known " + path, NoPath, {"path": told})
 
     def test_numbers(self):
@@ -218,7 +229,8 @@ class Consoles(unittest.TestCase):
         self.refuse(console, "limit 0", NoRoom, {"length": 6})
         self.assertEqual([console.say("count"), console.say("limit 7"), console.say("count")], ["510", "ok", "2"])
         console.say("feed [f")
-        self.assertEqual([console.say("forced"), console.say("limit none"), console.say("forced")], ["alse]", "ok", "alse"])
+        self.assertEqual([console.say("forced"), console.say("limit none"), console.say("forced")],
+                         ["alse]", "ok", "alse"])
         self.refuse(console, "limit 6", NoRoom, {"length": 7})
         console.say("limit 7")
         self.assertEqual([console.say("schema flag"), console.say("text"), console.say("count")], ["ok", "", "2"])
@@ -239,7 +251,8 @@ class Consoles(unittest.TestCase):
 
     def test_what_is_fed_is_taken_as_it_is(self):
         console = Console()
-        for text, position in ((" ", 0), (" 5", 0), ("5 ", 1), ("x", 0), ("\n", 0), ("\u0665", 0), ("5\u0665", 1), ("55", 1)):
+        for text, position in ((" ", 0), (" 5", 0), ("5 ", 1), ("x", 0), ("\n", 0), ("\u0665", 0), ("5\u0665", 1),
+                               ("55", 1)):
             self.refuse(console, "feed " + text, NotOffered, {"position": position})
             self.assertEqual(console.say("text"), "")
         for text in ("feed", "feed "):
@@ -249,7 +262,8 @@ class Consoles(unittest.TestCase):
         one, other = Console(), Console()
         one.say("schema flag")
         other.say("feed 3")
-        self.assertEqual([one.say("text"), other.say("text"), one.say("next"), other.say("next")], ["", "3", "ft", "none"])
+        self.assertEqual([one.say("text"), other.say("text"), one.say("next"), other.say("next")],
+                         ["", "3", "ft", "none"])
         self.assertEqual(Console().say(command="count"), "10")
 
     def test_counts_that_are_very_great(self):

@@ -205,7 +205,8 @@ class Gaps(unittest.TestCase):
         moved = Gap(language, "1")
         moved.drop(1)
         self.assertTrue(one == moved)
-        for other in objects() + [language, Gap(language, "0"), Gap(language, "", "0"), Gap(Language.listed(["0"])), ("", "")]:
+        for other in objects() + [language, Gap(language, "0"), Gap(language, "", "0"), Gap(Language.listed(["0"])),
+                                  ("", "")]:
             self.assertIs(one == other, False)
             self.assertIs(one != other, True)
 

@@ -116,8 +116,10 @@ class Halves(unittest.TestCase):
                 continue
             document = language[source.randrange(language.count)]
             at = source.randint(0, len(document))
-            for text in (document, document[:at] + source.choice("?0]}\"a,\u0663") + document[at:], document[:at] + document[at + 1:]):
-                mender = Mender(language, put=source.randint(1, 3), drop=source.randint(1, 3), swap=source.randint(1, 5))
+            for text in (document, document[:at] + source.choice("?0]}\"a,\u0663") + document[at:],
+                         document[:at] + document[at + 1:]):
+                mender = Mender(language, put=source.randint(1, 3), drop=source.randint(1, 3),
+                                swap=source.randint(1, 5))
                 wrong = None
                 for cut in range(len(text) + 1):
                     read = text[:cut]

@@ -23,15 +23,18 @@ BARRED_NAMES = set("""register mro elements open input law version_info with_tra
     credits dir eval exec exit gc globals help id locals os quit type vars sys""".split())
 BARRED_NODES = (ast.AsyncFunctionDef, ast.AsyncFor, ast.AsyncWith, ast.Await)
 DECORATORS = {"property", "staticmethod", "classmethod", "setter"}
-BARRED_BEGINNINGS = ("_wall", "_pe_", "_dcw_", "_enum_", "_cm_", "_twin_re_", "_lay_", "_law_", "_stub_", "_sre", "_WallAttr")
+BARRED_BEGINNINGS = ("_wall", "_pe_", "_dcw_", "_enum_", "_cm_", "_twin_re_", "_lay_", "_law_", "_stub_", "_sre",
+                     "_WallAttr")
 BARRED_WHOLES = re.compile(r"(_cold|_tuplegetter|_outside|_record|_written_out|_member_names)[0-9_]*$|.*[^ -~]")
-STRING_WORDS = re.compile(r"\b(type|typing|typing_extensions|enum|Enum|IntEnum|StrEnum|Flag|IntFlag|Generic|Protocol|ABC|ABCMeta"
-                          r"|namedtuple|NamedTuple|TypedDict|TYPE_CHECKING|abstractmethod)\b|dataclass|overload|contextmanager"
-                          r"|^__.*__$|%")
+STRING_WORDS = re.compile(r"\b(type|typing|typing_extensions|enum|Enum|IntEnum|StrEnum|Flag|IntFlag|Generic|Protocol"
+                          r"|ABC|ABCMeta|namedtuple|NamedTuple|TypedDict|TYPE_CHECKING|abstractmethod)\b"
+                          r"|dataclass|overload|contextmanager|^__.*__$|%")
 # What runs as an operator or a property, or is held to the same.
-PURE = {"__eq__", "__len__", "__bool__", "__contains__", "__getitem__", "__invert__", "__and__", "__or__", "__xor__", "__sub__",
+PURE = {"__eq__", "__len__", "__bool__", "__contains__", "__getitem__", "__invert__", "__and__", "__or__", "__xor__",
+        "__sub__",
         "__add__"}
-CHANGING = {"append", "clear", "extend", "insert", "pop", "remove", "reverse", "setdefault", "update", "add", "discard", "sort"}
+CHANGING = {"append", "clear", "extend", "insert", "pop", "remove", "reverse", "setdefault", "update", "add",
+            "discard", "sort"}
 MAKERS = {"list", "dict", "set", "sorted"}
 
 
@@ -150,7 +153,8 @@ class Language(unittest.TestCase):
                 for word in (getattr(node, "id", None), getattr(node, "attr", None), getattr(node, "arg", None),
                              getattr(node, "name", None)):
                     if isinstance(word, str):
-                        self.assertFalse(word.startswith(BARRED_BEGINNINGS) or BARRED_WHOLES.match(word), (path.name, word))
+                        self.assertFalse(word.startswith(BARRED_BEGINNINGS) or BARRED_WHOLES.match(word),
+                                         (path.name, word))
                         self.assertTrue(re.match("__[a-z]+__$|_?[A-Za-z]|_$", word), (path.name, word))
             for word in ("(type)", "Meta", "metaclass="):
                 self.assertNotIn(word, source)
@@ -165,7 +169,8 @@ class Language(unittest.TestCase):
                     self.assertIsNone(STRING_WORDS.search(node.value), (path.name, node.value))
 
     def each_class(self):
-        return [(path, node) for path, _, tree in self.each_file() for node in tree.body if isinstance(node, ast.ClassDef)]
+        return [(path, node) for path, _, tree in self.each_file() for node in tree.body
+                if isinstance(node, ast.ClassDef)]
 
     def test_names_of_methods_over_the_whole_package(self):
         sorts = {"plain": set(), "property": set(), "classmethod": set(), "stored": set()}
@@ -187,10 +192,10 @@ class Language(unittest.TestCase):
     def test_interface_methods_stand_in_their_classes(self):
         wanted = {"Reader": "feed back text known offered is_complete value fork with_limit settled_at __eq__ __len__",
                   "Console": "say", "Script": "__call__ __len__ cost __invert__ __add__ __eq__ kept",
-                  "Language": "of listed states __bool__ __contains__ __eq__ __and__ __or__ __sub__ __xor__ __getitem__ rank_of "
-                              "lengths upto within __iter__",
-                  "Gap": "before after first last forced forced_last closed fitting middles put put_last drop drop_last undo "
-                         "fork __eq__",
+                  "Language": "of listed states __bool__ __contains__ __eq__ __and__ __or__ __sub__ __xor__ "
+                              "__getitem__ rank_of lengths upto within __iter__",
+                  "Gap": "before after first last forced forced_last closed fitting middles put put_last drop "
+                         "drop_last undo fork __eq__",
                   "Mender": "feed __iadd__ text __len__ least price welcome nearest repair back fork __eq__"}
         files = {"Reader": "reader", "Console": "console", "Script": "changes", "Language": "languages", "Gap": "gaps",
                  "Mender": "menders"}
@@ -208,7 +213,8 @@ class Language(unittest.TestCase):
             for node in own.body:
                 if isinstance(node, ast.FunctionDef):
                     methods.setdefault(node.name, []).append(node)
-                    if node.name in PURE or [part for part in node.decorator_list if getattr(part, "id", "") == "property"]:
+                    if node.name in PURE or [part for part in node.decorator_list
+                                             if getattr(part, "id", "") == "property"]:
                         waiting.append(node)
                     if node.name == "__init__":
                         functions[own.name] = node
@@ -244,7 +250,8 @@ class Language(unittest.TestCase):
                 or isinstance(value, ast.BinOp) and isinstance(value.op, ast.Mult) and isinstance(value.left, ast.List)
                 for value in assigned[name])
 
-        kept = [part for part in ast.walk(function) if isinstance(part, ast.Attribute) and isinstance(part.ctx, ast.Store)]
+        kept = [part for part in ast.walk(function)
+                if isinstance(part, ast.Attribute) and isinstance(part.ctx, ast.Store)]
         for part in kept:
             self.assertEqual(part.value.id, "self")
             self.assertTrue(function.name == "__init__" or part.attr == "_kept_" + function.name, function.name)
@@ -257,7 +264,8 @@ class Language(unittest.TestCase):
             while isinstance(changed, ast.Subscript):
                 changed = changed.value
             if changed is not None:
-                self.assertTrue(isinstance(changed, ast.Name) and is_own(changed.id), (function.name, ast.unparse(node)))
+                self.assertTrue(isinstance(changed, ast.Name) and is_own(changed.id),
+                                (function.name, ast.unparse(node)))
 
     def test_no_generators_and_no_sets_that_are_iterated(self):
         for path, _, tree in self.each_file():

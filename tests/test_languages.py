@@ -71,7 +71,8 @@ class Languages(unittest.TestCase):
         for texts in some_lists(source, 150):
             language = Language.listed(texts)
             self.check(language, texts)
-            for text in ["", "a", "b", "ab", "aba", "z", "A"] + [text + "a" for text in texts[:5]] + [text[:-1] for text in texts[:5]]:
+            near = [text + "a" for text in texts[:5]] + [text[:-1] for text in texts[:5]]
+            for text in ["", "a", "b", "ab", "aba", "z", "A"] + near:
                 self.assertIs(text in language, text in texts)
                 if text not in texts:
                     self.refuse(lambda: language.rank_of(text), NotInside, {"wrong": text})
@@ -95,8 +96,10 @@ class Languages(unittest.TestCase):
 
     def test_equality(self):
         one = Language.listed(["1", "0"])
-        for same in (Language.of(("integer", 0, 1)), Language.listed(["0", "1", "0"]), Language.listed(["0"]) | Language.listed(["1"]),
-                     Language.of(("either", (("just", 0), ("just", 1)))), Language.of(("integer", 0, 99)).upto(1) & Language.listed(["0", "1"])):
+        for same in (Language.of(("integer", 0, 1)), Language.listed(["0", "1", "0"]),
+                     Language.listed(["0"]) | Language.listed(["1"]),
+                     Language.of(("either", (("just", 0), ("just", 1)))),
+                     Language.of(("integer", 0, 99)).upto(1) & Language.listed(["0", "1"])):
             self.assertTrue(one == same and same == one)
             self.assertFalse(one != same)
         for other in objects() + [Language.listed(["0"]), Language.of(("integer", 0, 2)), one.states(), "0", 2]:

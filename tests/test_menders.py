@@ -66,7 +66,8 @@ class Menders(unittest.TestCase):
         self.assertEqual(mender.welcome, plain.welcome(text))
         self.assertEqual(mender.nearest(), plain.nearest(text))
         script = mender.repair()
-        self.assertEqual([script.given, script.made, script.cost(**named)], [text, plain.nearest(text), plain.price(text)])
+        self.assertEqual([script.given, script.made, script.cost(**named)],
+                         [text, plain.nearest(text), plain.price(text)])
         self.assertTrue(is_cheapest(language, text, script, **named))
         new = Mender(language, **named)
         new.feed(text)
@@ -127,7 +128,8 @@ class Menders(unittest.TestCase):
                 kind = source.choice(["feed", "add", "back", "fork", "wrong"])
                 if kind == "feed" and len(text) < 9:
                     more = "".join(source.choices(plain.signs + ["?"], k=source.randint(0, 3)))
-                    self.assertEqual(mender.feed(more), [plain.least(text + more[:size + 1]) for size in range(len(more))])
+                    self.assertEqual(mender.feed(more),
+                                     [plain.least(text + more[:size + 1]) for size in range(len(more))])
                     text += more
                 elif kind == "add" and len(text) < 9:
                     more = source.choice(texts)[:2]
@@ -157,7 +159,8 @@ class Menders(unittest.TestCase):
         self.assertTrue(one == one.fork())
         read = Mender(language, put=2)
         read.feed("0")
-        for other in objects() + [read, Mender(language), Mender(language, put=2, drop=2), Mender(language, put=2, swap=2),
+        for other in objects() + [read, Mender(language), Mender(language, put=2, drop=2),
+                                  Mender(language, put=2, swap=2),
                                   Mender(Language.listed(["0"]), put=2), language, "", 0]:
             self.assertIs(one == other, False)
             self.assertIs(one != other, True)

@@ -309,10 +309,13 @@ class Texts(unittest.TestCase):
 
     def test_right_texts(self):
         for text, schema in (
-                ("{a: int 0..3, b?: same a}", ("record", (("a", ("integer", 0, 3), True), ("b", ("repeat", "a"), False)))),
+                ("{a: int 0..3, b?: same a}",
+                 ("record", (("a", ("integer", 0, 3), True), ("b", ("repeat", "a"), False)))),
                 ("[*flag; 0..8]", ("list", (), ("flag",), 0, 8)), ("{}", ("record", ())), ("= {}", ("just", {})),
-                ("{a: = 2, b: [*flag; a]}", ("record", (("a", ("just", 2), True), ("b", ("sized", ("flag",), "a"), True)))),
-                ('(one of "" "a" | int -5..-1 | flag)', ("either", (("choice", ("", "a")), ("integer", -5, -1), ("flag",)))),
+                ("{a: = 2, b: [*flag; a]}",
+                 ("record", (("a", ("just", 2), True), ("b", ("sized", ("flag",), "a"), True)))),
+                ('(one of "" "a" | int -5..-1 | flag)',
+                 ("either", (("choice", ("", "a")), ("integer", -5, -1), ("flag",)))),
                 ('(one of "" | one of "a")', ("either", (("choice", ("",)), ("choice", ("a",))))),
                 ('= {"a":[{"b":true}]}', ("just", {"a": [{"b": True}]})), ("= [[[[[[]]]]]]", ("just", [[[[[[]]]]]])),
                 ('text "" a 0..0', ("text", "", "a", 0, 0)), ('= ""', ("just", ""))):
@@ -322,15 +325,18 @@ class Texts(unittest.TestCase):
     def test_positions(self):
         for text, position in (
                 ("", 0), (" flag", 0), ("flag ", 4), ("Flag", 0), ("flags", 4), ("int 0..", 7), ("int -0..1", 5),
-                ("int 00..1", 5), ("int 01..1", 5), ("int -..1", 5), ("int 0 ..1", 5), ("int +1..1", 4), ("int 0...1", 7),
+                ("int 00..1", 5), ("int 01..1", 5), ("int -..1", 5), ("int 0 ..1", 5), ("int +1..1", 4),
+                ("int 0...1", 7),
                 ('one of ', 7), ('one of "a" ', 11), ('one of "a" x', 11), ('one of "a"  "b"', 11), ('one of "A"', 8),
                 ('one of "a" |', 11), ('(one of "a" |', 13), ('(one of "a" ; flag)', 12), ('(one of "a"| flag)', 11),
                 ('(one of "a" "b")', 15), ('([*one of "a" | flag)', 14), ('text "a"  0..1', 9), ('text "a" 0..1', 9),
-                ("text a b 0..1", 5), ("=1", 1), ("=  1", 2), ("= 1 ", 3), ("= [1, 2]", 5), ("= [1,]", 5), ("= [,1]", 3),
+                ("text a b 0..1", 5), ("=1", 1), ("=  1", 2), ("= 1 ", 3), ("= [1, 2]", 5), ("= [1,]", 5),
+                ("= [,1]", 3),
                 ('= {"":1}', 4), ('= {"a" :1}', 6), ('= {a:1}', 3), ('= {"a":1,}', 9), ("= nul", 2), ("= tru ", 5),
                 ("= 1.5", 3), ("[flag; 0..1]", 5), ("[]", 1), ("[*flag, 0..1]", 6), ("[flag, *flag; a]", 14),
                 ("[*flag; A]", 8), ("[*flag; ]", 8), ("[*flag; 0..1", 12), ("[*flag; a", 9), ("[*flag; a..b]", 9),
-                ("{ }", 1), ("{a: flag, }", 10), ("{a:flag}", 3), ("{a ?: flag}", 2), ("{a? : flag}", 3), ("{: flag}", 1),
+                ("{ }", 1), ("{a: flag, }", 10), ("{a:flag}", 3), ("{a ?: flag}", 2), ("{a? : flag}", 3),
+                ("{: flag}", 1),
                 ("(flag)", 5), ("()", 1), ("(flag | )", 8), ("(flag |flag)", 7), ("(flag| flag)", 5), ("same ", 5),
                 ("same A", 5), ("samea", 4), ("\u0663", 0), ("int \u0663..4", 4), ("int 1..4\u0663", 8),
                 ('one of "\u00e9"', 8), ("flag\n", 4), ("flag\x00", 4)):
@@ -393,7 +399,8 @@ class Texts(unittest.TestCase):
         self.assertEqual(self.outcome('one of "' + "a" * 10 ** 6), 2000)
 
     def test_long_parts(self):
-        for text in ("int 0.." + "9" * 100, "int -" + "9" * 100 + ".." + "1" * 99, "= " + "1" * 100, "same " + "a" * 300,
+        for text in ("int 0.." + "9" * 100, "int -" + "9" * 100 + ".." + "1" * 99, "= " + "1" * 100,
+                     "same " + "a" * 300,
                      '= "' + "a" * 300 + '"', "{" + "a" * 300 + ": flag}", 'text "" ' + "a" * 300 + " 0..1",
                      'one of "' + "a" * 300 + '"', '= {"' + "b" * 300 + '":0}', "[*flag; " + "a" * 300 + "]",
                      "= [" + ",".join("0" * 9) + "]", "= {" + ",".join(f'"{sign}":0' for sign in LETTERS) + "}"):

@@ -1,4 +1,4 @@
-"""The whole document once more: alternatives of one form, characters of no document, errors in their order, ends of bounds."""
+"""The whole document once more: alternatives of one form, strange characters, errors in their order, ends of bounds."""
 
 import random
 import time
@@ -16,7 +16,8 @@ from soonknown.automata import accepts, automaton, equal, outside
 from soonknown.certificates import check_cover, is_witness, witness
 from soonknown.console import Console
 from soonknown.counting import counts, longest_length, shortest_length
-from soonknown.errors import (BadCommand, BadDocument, BadPrefix, BadSchema, NoRoom, NoSuchCompletion, NotOffered, SchemaError,
+from soonknown.errors import (BadCommand, BadDocument, BadPrefix, BadSchema, NoRoom, NoSuchCompletion, NotOffered,
+                              SchemaError,
                               TooManyStates)
 from soonknown.known import known
 from soonknown.languages import Language
@@ -29,20 +30,25 @@ from soonknown.values import is_value, read_document
 from test_knowledge import exact
 
 # Letters and digits of other writings, signs that look like others, and signs that stand nowhere.
-STRANGE = ["\u00e9", "\u0430", "\uff41", "\u0660", "\u0663", "\uff11", "\u00b2", "\u2167", "\u00bd", "A", "Z", "_", "'", " ", "\n",
-           "\t", "\0", "\x7f", "\u00a0", "\u200b", "\u2028", "\U0001d7d9", "\U0001f600", "\ud800", "+", ".", "e", "E", "\\", "/"]
+STRANGE = ["\u00e9", "\u0430", "\uff41", "\u0660", "\u0663", "\uff11", "\u00b2", "\u2167", "\u00bd", "A", "Z", "_",
+           "'", " ", "\n",
+           "\t", "\0", "\x7f", "\u00a0", "\u200b", "\u2028", "\U0001d7d9", "\U0001f600", "\ud800", "+", ".", "e", "E",
+           "\\", "/"]
 
 
 def integers_apart(source):
     """Integer schemas and justs with integers, pairwise apart."""
-    ends = sorted(source.sample([-120, -101, -100, -99, -12, -10, -9, -2, -1, 0, 1, 2, 9, 10, 11, 19, 20, 99, 100, 101, 115], 6))
-    found = [("integer", ends[0], ends[1]), ("integer", ends[2], ends[3]), ("integer", ends[4], ends[5]), ("just", ends[5] + 1)]
+    ends = sorted(source.sample([-120, -101, -100, -99, -12, -10, -9, -2, -1, 0, 1, 2, 9, 10, 11, 19, 20, 99, 100, 101,
+                                 115], 6))
+    found = [("integer", ends[0], ends[1]), ("integer", ends[2], ends[3]), ("integer", ends[4], ends[5]),
+             ("just", ends[5] + 1)]
     return [part for part in found if part[0] == "just" or part[2] - part[1] < 40][:source.choice([2, 3, 4])]
 
 
 def texts_apart(source):
     """Schemas of strings, pairwise apart."""
-    rows = [[("text", "a", "ab", 1, 3), ("text", "b", "ab", 2, 3), ("text", "ca", "b", 2, 4), ("choice", ("", "d", "da"))],
+    rows = [[("text", "a", "ab", 1, 3), ("text", "b", "ab", 2, 3), ("text", "ca", "b", 2, 4),
+             ("choice", ("", "d", "da"))],
             [("text", "", "a", 0, 2), ("text", "", "b", 1, 3), ("text", "ab", "c", 2, 4), ("just", "ba")],
             [("text", "", "ab", 0, 1), ("text", "", "ab", 2, 2), ("text", "", "ab", 3, 4)],
             [("choice", ("a", "ab")), ("choice", ("aa", "b")), ("choice", ("", "abc")), ("text", "abcd", "a", 4, 6)]]
@@ -52,8 +58,10 @@ def texts_apart(source):
 def lists_apart(source, item):
     """Schemas of lists, pairwise apart."""
     rows = [[("list", (), item, 0, 1), ("list", (), ("flag",), 2, 2), ("just", [1, 2, 3])],
-            [("list", (("just", 1),), item, 1, 2), ("list", (("just", 12),), item, 1, 2), ("list", (("flag",),), item, 1, 2)],
-            [("list", (item, ("integer", 0, 3)), ("flag",), 2, 3), ("list", (item, ("integer", 4, 30)), ("flag",), 2, 2)],
+            [("list", (("just", 1),), item, 1, 2), ("list", (("just", 12),), item, 1, 2),
+             ("list", (("flag",),), item, 1, 2)],
+            [("list", (item, ("integer", 0, 3)), ("flag",), 2, 3),
+             ("list", (item, ("integer", 4, 30)), ("flag",), 2, 2)],
             [("just", []), ("just", [True]), ("just", [1]), ("list", (("choice", ("a", "b")),), item, 1, 2)]]
     return source.choice(rows)
 
@@ -63,8 +71,10 @@ def records_apart(source, item):
     number = ("integer", 0, 2)
     linked = ("record", (("a", number, True), ("b", ("repeat", "a"), True), ("c", item, False)))
     sized = ("record", (("a", ("integer", 3, 4), True), ("b", ("sized", ("just", 0), "a"), True)))
-    rows = [[linked, sized, ("just", {})], [("record", (("a", item, True),)), ("record", (("b", item, True), ("c", ("flag",), False)))],
-            [("record", (("a", ("just", 1), True), ("b", item, False))), ("record", (("a", ("just", 12), True), ("b", item, False))),
+    rows = [[linked, sized, ("just", {})],
+            [("record", (("a", item, True),)), ("record", (("b", item, True), ("c", ("flag",), False)))],
+            [("record", (("a", ("just", 1), True), ("b", item, False))),
+             ("record", (("a", ("just", 12), True), ("b", item, False))),
              ("record", (("b", item, False), ("c", ("flag",), False)))],
             [linked, ("record", (("a", ("flag",), True), ("b", ("repeat", "a"), False))), ("just", {"b": 1})]]
     return source.choice(rows)
@@ -72,8 +82,10 @@ def records_apart(source, item):
 
 def alternatives_of_one_form(source, depth):
     """An either with alternatives of one form or of a few, some of them with such eithers inside."""
-    item = alternatives_of_one_form(source, depth - 1) if depth > 1 and source.random() < 0.5 else samples.random_plain(source)
-    parts = source.choice([integers_apart, texts_apart, lambda one: lists_apart(one, item), lambda one: records_apart(one, item)])
+    is_deeper = depth > 1 and source.random() < 0.5
+    item = alternatives_of_one_form(source, depth - 1) if is_deeper else samples.random_plain(source)
+    parts = source.choice([integers_apart, texts_apart, lambda one: lists_apart(one, item),
+                           lambda one: records_apart(one, item)])
     found = list(parts(source))
     if len(found) < 4 and source.random() < 0.3:
         found.append(source.choice([("flag",), ("just", {"zz": 1}), ("integer", 500, 520)]))
@@ -175,8 +187,10 @@ class AlternativesOfOneForm(unittest.TestCase):
 
 class CharactersOfNoDocument(unittest.TestCase):
     SCHEMAS = [("integer", 0, 199), ("flag",), ("text", "a", "abe", 1, 5), ("choice", ("a", "ab", "e")),
-               ("list", (), ("integer", 0, 12), 0, 3), ("record", (("a", ("flag",), False), ("e", ("integer", -5, 5), True))),
-               ("just", [1, "ae", {"a": -1}]), ("either", (("integer", 0, 9), ("text", "", "ab", 0, 2), ("list", (), ("flag",), 0, 1)))]
+               ("list", (), ("integer", 0, 12), 0, 3),
+               ("record", (("a", ("flag",), False), ("e", ("integer", -5, 5), True))),
+               ("just", [1, "ae", {"a": -1}]),
+               ("either", (("integer", 0, 9), ("text", "", "ab", 0, 2), ("list", (), ("flag",), 0, 1)))]
 
     def texts(self, source, schema):
         """(text, index of the strange character in it)."""
@@ -190,7 +204,8 @@ class CharactersOfNoDocument(unittest.TestCase):
         source = random.Random(196)
         for schema in self.SCHEMAS * 3:
             for text, at in self.texts(source, schema):
-                for call in (completions.offered, completions.forced_text, completions.count, completions.shortest, known):
+                for call in (completions.offered, completions.forced_text, completions.count, completions.shortest,
+                             known):
                     self.refused(lambda: call(schema, text, limit=source.choice([None, 0, 400])), BadPrefix, at)
                 self.refused(lambda: completions.completion(schema, text, -1), BadPrefix, at)
                 self.refused(lambda: completions.rank(schema, text), BadDocument, at)
@@ -268,7 +283,8 @@ class ErrorsInOrder(unittest.TestCase):
         before = exact(schema)
         reader = Reader(schema, limit=400)
         reader.feed("[[1]")
-        for call in (lambda: reader.feed(",x"), lambda: reader.back(5), lambda: reader.with_limit(4), lambda: Reader(schema, limit=3)):
+        for call in (lambda: reader.feed(",x"), lambda: reader.back(5), lambda: reader.with_limit(4),
+                     lambda: Reader(schema, limit=3)):
             self.assertIsInstance(self.outcome(call), tuple)
             self.assertEqual([reader.text(), reader.offered(), exact(schema)], ["[[1]", [",", "]"], before])
 
